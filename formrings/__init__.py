@@ -1,0 +1,1 @@
+"""Formrings: forms of degree three, and rings on three integers."""

@@ -1,0 +1,1 @@
+"""Integers, changes and lattices."""

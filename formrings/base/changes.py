@@ -1,0 +1,57 @@
+"""Changes of two unknowns."""
+
+from formrings.base.checks import are_any_integers, are_short_integers, check_between
+from formrings.errors import InvalidChange
+
+IDLE = ((1, 0), (0, 1))
+MAX_SPAN = 4
+
+
+def determinant_of(change):
+    """The determinant of a pair of pairs of integers."""
+    (p, q), (r, s) = change
+    return p * s - q * r
+
+
+def is_change(value):
+    """Whether the value is a change, with integers of any length."""
+    if not isinstance(value, tuple) or len(value) != 2:
+        return False
+    if not all([are_any_integers(row, 2) for row in value]):
+        return False
+    return determinant_of(value) in (1, -1)
+
+
+def check_change(value):
+    """Refuse what is no change, or has an integer of more than sixty digits."""
+    if not is_change(value) or not all([are_short_integers(row, 2) for row in value]):
+        raise InvalidChange("a change is a pair of pairs of integers with the determinant 1 or -1")
+
+
+def joined(first, second):
+    """The change that does what the first one does, and then what the second one does."""
+    check_change(first)
+    check_change(second)
+    (p, q), (r, s) = first
+    (i, j), (k, m) = second
+    return ((i * p + j * r, i * q + j * s), (k * p + m * r, k * q + m * s))
+
+
+def undone(change):
+    """The change that takes the change back."""
+    check_change(change)
+    e = determinant_of(change)
+    (p, q), (r, s) = change
+    return ((e * s, -e * q), (-e * r, e * p))
+
+
+def changes_to(most):
+    """All changes whose integers have sizes of at most most, ascending."""
+    check_between(most, 0, MAX_SPAN)
+    sizes = range(-most, most + 1)
+    for p in sizes:
+        for q in sizes:
+            for r in sizes:
+                for s in sizes:
+                    if p * s - q * r in (1, -1):
+                        yield ((p, q), (r, s))

@@ -1,0 +1,98 @@
+"""Divisors, primes, roots and fundamental integers."""
+
+from math import gcd, isqrt
+
+from formrings.base.checks import are_short_integers, check_between, is_short_integer
+from formrings.errors import InvalidNumber, InvalidOperation
+
+MAX_PRIME = 10 ** 6
+MAX_FACTORED = 10 ** 12
+MAX_FUNDAMENTAL = 10 ** 9
+MOST_NUMBERS = 1000
+
+
+def shared_divisor(numbers):
+    """The greatest common divisor of integers of any length; 0 if there is none above 0."""
+    shared = 0
+    for number in numbers:
+        shared = gcd(shared, number)
+    return shared
+
+
+def common_divisor(numbers):
+    """The greatest integer that divides all of the numbers; 0 if there are none, or all are 0."""
+    if not isinstance(numbers, tuple) or len(numbers) > MOST_NUMBERS:
+        raise InvalidOperation("the numbers are not a tuple of at most 1000")
+    if not are_short_integers(numbers, len(numbers)):
+        raise InvalidOperation("one of the numbers is no integer")
+    return shared_divisor(numbers)
+
+
+def is_prime(number):
+    """Whether the number, from 0 to MAX_PRIME, is a prime."""
+    check_between(number, 0, MAX_PRIME)
+    if number < 2:
+        return False
+    for divisor in range(2, isqrt(number) + 1):
+        if number % divisor == 0:
+            return False
+    return True
+
+
+def factored(number):
+    """The ascending pairs of a prime that divides the number, and of how often it does."""
+    check_between(number, 1, MAX_FACTORED)
+    found = []
+    left = number
+    divisor = 2
+    while divisor * divisor <= left:
+        times = 0
+        while left % divisor == 0:
+            left = left // divisor
+            times += 1
+        if times > 0:
+            found.append((divisor, times))
+        divisor = divisor + 2 if divisor > 2 else 3
+    if left > 1:
+        found.append((left, 1))
+    return tuple(found)
+
+
+def raised(base, exponent):
+    """The power of an integer with an exponent of at least 0."""
+    result = 1
+    for _ in range(exponent):
+        result = result * base
+    return result
+
+
+def whole_root(number, exponent):
+    """The greatest integer whose power with the exponent is at most the number."""
+    if not is_short_integer(number) or number < 0:
+        raise InvalidNumber(number)
+    check_between(exponent, 2, 10)
+    low = 0
+    high = 1 << (number.bit_length() // exponent + 1)
+    while high - low > 1:
+        middle = (low + high) // 2
+        if raised(middle, exponent) <= number:
+            low = middle
+        else:
+            high = middle
+    return low
+
+
+def is_square_free(number):
+    """Whether the square of no prime divides an integer other than 0."""
+    return all([times == 1 for _, times in factored(abs(number))])
+
+
+def is_fundamental(number):
+    """Whether the number is fundamental."""
+    check_between(number, -MAX_FUNDAMENTAL, MAX_FUNDAMENTAL)
+    if number % 4 == 1:
+        return is_square_free(number)
+    if number % 4 != 0:
+        return False
+    quarter = number // 4
+    return quarter % 4 in (2, 3) and is_square_free(quarter)

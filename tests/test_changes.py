@@ -5,32 +5,8 @@ import unittest
 from formrings.base import changes
 from formrings.base.changes import IDLE, changes_to, is_change, joined, undone
 from formrings.errors import InvalidChange, InvalidNumber
-from tests.helper import LONG, LONGEST, NO_INTEGERS, NO_TUPLES, Refusals, nested, numbers
-
-NO_CHANGES = NO_TUPLES + (
-    (), (1, 0), (1, 0, 0, 1), ((1, 0),), ((1, 0), (0, 1), (0, 0)), ((1, 0), (0,)), ((1, 0, 0), (0, 1, 0)),
-    ((1, 1), (1, 1)), ((2, 0), (0, 1)), ((0, 0), (0, 0)), ((1, 0), [0, 1]), [(1, 0), (0, 1)], ([1, 0], (0, 1)),
-    ((True, 0), (0, 1)), ((1, False), (0, 1)), ((1, 0), (0, True)), ((1, None), (0, 1)), (("1", 0), (0, 1)),
-    (((1,), 0), (0, 1)), ((1, 0), None), (None, (0, 1)), ("10", "01"), {(1, 0): (0, 1)}, nested(8), IDLE + IDLE,
-)
-
-
-def determinant(change):
-    return change[0][0] * change[1][1] - change[0][1] * change[1][0]
-
-
-def some_changes(seed, many):
-    """Changes of both determinants with small and great integers."""
-    source = numbers(seed)
-    found = []
-    for _ in range(many):
-        change = IDLE
-        for _ in range(source.randint(1, 6)):
-            k = source.randint(-5, 5)
-            step = source.choice((((1, k), (0, 1)), ((1, 0), (k, 1)), ((0, 1), (1, 0)), ((-1, 0), (0, 1))))
-            change = joined(change, step)
-        found.append(change)
-    return found
+from tests.helper import (
+    LONG, LONG_CHANGES, LONGEST, NO_CHANGES, NO_INTEGERS, Refusals, determinant, some_changes)
 
 
 class Examples(unittest.TestCase):
@@ -99,8 +75,7 @@ class JoinedAndUndone(Refusals, unittest.TestCase):
         self.assertEqual(joined(((1, LONGEST), (0, 1)), ((1, 1), (0, 1))), ((1, LONG), (0, 1)))
 
     def test_wrong_ones(self):
-        longer = (((1, LONG), (0, 1)), ((-LONG, 1), (1, 0)))
-        for value in NO_CHANGES + longer:
+        for value in NO_CHANGES + LONG_CHANGES:
             self.refuses(InvalidChange, {}, joined, value, IDLE)
             self.refuses(InvalidChange, {}, joined, IDLE, value)
             self.refuses(InvalidChange, {}, joined, value, value)

@@ -2,6 +2,7 @@
 
 from formrings.errors import InvalidNumber
 
+DIGITS = 60
 LIMIT = 10 ** 60
 
 
@@ -34,6 +35,20 @@ def are_short_integers(value, many):
     if not isinstance(value, tuple) or len(value) != many:
         return False
     return all([is_short_integer(number) for number in value])
+
+
+def is_written_integer(word):
+    """Whether a string is the text of an integer of at most sixty digits, without needless signs and zeros."""
+    digits = word[1:] if word.startswith("-") else word
+    if not 1 <= len(digits) <= DIGITS or not all([sign in "0123456789" for sign in digits]):
+        return False
+    return word == "0" or not digits.startswith("0")
+
+
+def check_integer(value):
+    """Refuse what is no integer of at most sixty digits."""
+    if not is_short_integer(value):
+        raise InvalidNumber(value)
 
 
 def check_between(value, low, high):

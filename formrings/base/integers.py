@@ -19,6 +19,12 @@ def shared_divisor(numbers):
     return shared
 
 
+def fraction(top, bottom):
+    """The pair of the top and the bottom, which is above 0, in lowest terms."""
+    shared = gcd(top, bottom)
+    return (top // shared, bottom // shared)
+
+
 def common_divisor(numbers):
     """The greatest integer that divides all of the numbers; 0 if there are none, or all are 0."""
     if not isinstance(numbers, tuple) or len(numbers) > MOST_NUMBERS:

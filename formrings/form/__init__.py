@@ -1,0 +1,1 @@
+"""Doubles and forms."""

@@ -1,0 +1,1 @@
+"""Rings and elements."""

@@ -27,6 +27,7 @@ NO_INTEGERS = (
     None, True, False, "", "1", "a\tb\n", (), (1,), (1, 2), [], [1], {}, {1: 2}, ((1, 2), (3, 4)),
     LONG, -LONG, 10 ** 99, -10 ** 99,
 ) + OBJECTS
+NO_PRIMES = (0, 1, -2, -3, 4, 9, 91, 9999, 10000, 10007, 10 ** 6 + 3, LONG - 1) + NO_INTEGERS
 NO_TUPLES = (
     None, True, False, 0, 1, -1, LONG, "", "(1, 0)", "a" * 4000, [], [1, 0], {}, {1: 0}, [[1, 0], [0, 1]],
 ) + OBJECTS
@@ -81,6 +82,12 @@ def some_changes(seed, many):
                 ((-p, -q), (r, s))))
         found.append(((p, q), (r, s)))
     return found
+
+
+def product_form(root, double):
+    """The form y X - x Y, multiplied by a double in X and Y, for a root (x, y)."""
+    (x, y), (a, b, c) = root, double
+    return Form((y * a, y * b - x * a, y * c - x * b, -x * c))
 
 
 class Refusals:

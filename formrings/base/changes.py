@@ -28,21 +28,31 @@ def check_change(value):
         raise InvalidChange("a change is a pair of pairs of integers with the determinant 1 or -1")
 
 
-def joined(first, second):
-    """The change that does what the first one does, and then what the second one does."""
-    check_change(first)
-    check_change(second)
+def both(first, second):
+    """The change that does the one and then the other, with integers of any length."""
     (p, q), (r, s) = first
     (i, j), (k, m) = second
     return ((i * p + j * r, i * q + j * s), (k * p + m * r, k * q + m * s))
 
 
-def undone(change):
-    """The change that takes the change back."""
-    check_change(change)
+def taken_back(change):
+    """The change that takes the change back, with integers of any length."""
     e = determinant_of(change)
     (p, q), (r, s) = change
     return ((e * s, -e * q), (-e * r, e * p))
+
+
+def joined(first, second):
+    """The change that does what the first one does, and then what the second one does."""
+    check_change(first)
+    check_change(second)
+    return both(first, second)
+
+
+def undone(change):
+    """The change that takes the change back."""
+    check_change(change)
+    return taken_back(change)
 
 
 def changes_to(most):

@@ -9,6 +9,7 @@ MAX_PRIME = 10 ** 6
 MAX_FACTORED = 10 ** 12
 MAX_FUNDAMENTAL = 10 ** 9
 MOST_NUMBERS = 1000
+GREATEST_PRIME = 10000
 
 
 def shared_divisor(numbers):
@@ -23,6 +24,19 @@ def fraction(top, bottom):
     """The pair of the top and the bottom, which is above 0, in lowest terms."""
     shared = gcd(top, bottom)
     return (top // shared, bottom // shared)
+
+
+def cofactors(first, second):
+    """Integers i and j for which i times the first number, and j times the second one, are 1 together.
+
+    The numbers have no common divisor above 1.
+    """
+    left, right = (first, 1, 0), (second, 0, 1)
+    while right[0] != 0:
+        times = left[0] // right[0]
+        left, right = right, tuple([one - times * other for one, other in zip(left, right)])
+    sign, i, j = left
+    return (sign * i, sign * j)
 
 
 def common_divisor(numbers):
@@ -45,6 +59,23 @@ def is_prime(number):
     return True
 
 
+def check_prime(number):
+    """Refuse what is no prime from 2 to GREATEST_PRIME."""
+    check_between(number, 2, GREATEST_PRIME)
+    if not is_prime(number):
+        raise InvalidNumber(number)
+
+
+def times_within(number, prime):
+    """How often the prime divides a number other than 0, of any length."""
+    times = 0
+    left = number
+    while left % prime == 0:
+        left = left // prime
+        times += 1
+    return times
+
+
 def factored(number):
     """The ascending pairs of a prime that divides the number, and of how often it does."""
     check_between(number, 1, MAX_FACTORED)
@@ -52,12 +83,10 @@ def factored(number):
     left = number
     divisor = 2
     while divisor * divisor <= left:
-        times = 0
-        while left % divisor == 0:
-            left = left // divisor
-            times += 1
-        if times > 0:
+        if left % divisor == 0:
+            times = times_within(left, divisor)
             found.append((divisor, times))
+            left = left // raised(divisor, times)
         divisor = divisor + 2 if divisor > 2 else 3
     if left > 1:
         found.append((left, 1))

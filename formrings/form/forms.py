@@ -55,6 +55,12 @@ def is_root_of(coefficients, value):
     return value == plain_root(x, y) and form_value(coefficients, x, y) == 0
 
 
+def check_form(value):
+    """Refuse what is no form."""
+    if not isinstance(value, Form):
+        raise InvalidForm("an object of Form is asked for")
+
+
 def form_of(coefficients):
     """The form with these four integers, which can have any length."""
     form = Form((0, 0, 0, 0))

@@ -37,11 +37,17 @@ def cubic_value(tail, z):
     return ((z + i) * z + j) * z + k
 
 
-def cubic_parts(tail):
-    """Parts from low to high that have all integer roots, with 1 where the cubic rises, and -1 where it falls."""
+def cubic_span(tail):
+    """An integer that is greater than all real roots of the cubic in size."""
     i, j, k = tail
     # No root is greater than twice the greatest of i, the square root of j and the cube root of k, all in size.
-    span = 2 << max(i.bit_length(), j.bit_length() // 2 + 1, k.bit_length() // 3 + 1)
+    return 2 << max(i.bit_length(), j.bit_length() // 2 + 1, k.bit_length() // 3 + 1)
+
+
+def cubic_parts(tail):
+    """Parts from low to high that have all integer roots, with 1 where the cubic rises, and -1 where it falls."""
+    i, j, _ = tail
+    span = cubic_span(tail)
     inner = i * i - 3 * j
     if inner <= 0:
         return [(-span, span, 1)]
@@ -61,6 +67,13 @@ def reached(tail, low, high, way):
         else:
             low = middle + 1
     return low
+
+
+def over_only_root(tail):
+    """The least integer that is not below the only real root of the cubic."""
+    # There is no other root, so the values are at least 0 just from this one on, wherever the cubic falls.
+    span = cubic_span(tail)
+    return reached(tail, -span, span, 1)
 
 
 def cubic_root(tail):

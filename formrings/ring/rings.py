@@ -2,8 +2,8 @@
 
 from formrings.base.checks import are_any_integers, are_short_integers, check_between, check_integer
 from formrings.base.integers import fraction, shared_divisor
-from formrings.errors import InvalidElement, InvalidForm, InvalidNumber, InvalidOperation, InvalidRing, Refused
-from formrings.form.forms import Form, form_of, form_value
+from formrings.errors import InvalidElement, InvalidNumber, InvalidOperation, InvalidRing, Refused
+from formrings.form.forms import check_form, form_of, form_value
 from formrings.ring.triples import (
     UNITS, broken_bracket, polynomial_by, power_by, product_by, table_of, trace_by)
 
@@ -26,8 +26,7 @@ class Ring:
     """The ring of a form. It never changes."""
 
     def __init__(self, form):
-        if not isinstance(form, Form):
-            raise InvalidForm("a ring has a form")
+        check_form(form)
         self._form = form
 
     @property
@@ -64,6 +63,12 @@ class Ring:
 
     def __str__(self):
         return f"ring of {self._form}"
+
+
+def check_ring(value):
+    """Refuse what is no ring."""
+    if not isinstance(value, Ring):
+        raise InvalidRing("an object of Ring is asked for")
 
 
 def check_one_ring(first, second):
@@ -229,8 +234,7 @@ def index_of(element):
 
 def trace_table(ring):
     """The table of the traces of the products of 1, w and t."""
-    if not isinstance(ring, Ring):
-        raise InvalidRing("a table of traces is that of a ring")
+    check_ring(ring)
     table = table_for(ring)
     return tuple([tuple([trace_by(table, product_by(table, one, other)) for other in UNITS]) for one in UNITS])
 

@@ -1,0 +1,1 @@
+"""Rings below and above a ring."""

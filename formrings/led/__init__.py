@@ -1,0 +1,1 @@
+"""Least forms, and ways between forms."""

@@ -1,0 +1,1 @@
+"""Lists of rings by their discriminants."""

@@ -1,0 +1,233 @@
+import inspect
+import itertools
+import unittest
+
+from formrings.above.steps import greatest, is_greatest
+from formrings.base.integers import is_fundamental
+from formrings.errors import InvalidNumber, InvalidOperation
+from formrings.form.forms import Form
+from formrings.led.least import is_least, least_form
+from formrings.listing import lists
+from formrings.listing.lists import fields_of, rings_of, rings_to, with_roots
+from formrings.ring.rings import Ring
+from tests.helper import LONG, LONGEST, NO_INTEGERS, NO_TUPLES, Refusals, nested
+
+MOST = 100000
+GREAT = (MOST, -MOST, 99997, -99999, 99856, 99225, -99996, -65536, 65536, -91125, 50000, -50000, -3 ** 9 * 4)
+FUNCTIONS = (rings_of, with_roots, fields_of)
+
+
+def told(forms):
+    return [str(form) for form in forms]
+
+
+def is_ordered(forms):
+    rows = [form.coefficients for form in forms]
+    return isinstance(forms, tuple) and all(one < other for one, other in zip(rows, rows[1:]))
+
+
+class Examples(unittest.TestCase):
+    def test_constants(self):
+        self.assertEqual((lists.MAX_DISCRIMINANT, lists.MAX_LISTED), (100000, 300))
+
+    def test_lines(self):
+        self.assertEqual(
+            [told(rings_of(number)) for number in (1, 49, -23, -27, 3)],
+            [['(0, 1, 1, 0)'], ['(0, 1, 1, -12)', '(1, 2, -1, -1)'], ['(0, 1, 1, 6)', '(1, 1, 2, 1)'],
+             ['(0, 1, 1, 7)', '(0, 3, 3, 1)'], []])
+        self.assertEqual(
+            [told(fields_of(number)) for number in (-3299, -2012, -108, 49)],
+            [['(1, 1, 9, 8)', '(1, 2, 4, 13)', '(1, 3, 5, 14)', '(3, 5, 7, 6)'], [], ['(1, 3, 3, 3)'], ['(1, 2, -1, -1)']])
+        self.assertEqual(
+            [told(with_roots(number)) for number in (16, -2012)],
+            [['(0, 1, 0, -4)', '(0, 2, 2, 0)'], ['(0, 1, 0, 503)', '(0, 2, 1, 63)']])
+        self.assertEqual(
+            [len(rings_of(-2012)),
+             [(number, len(forms)) for number, forms in rings_to(24, below=True).items() if len(forms) > 1],
+             list(rings_to(13))],
+            [5, [(-23, 2), (-16, 2)], [1, 4, 5, 8, 9, 12, 13]])
+        with self.assertRaises(InvalidNumber) as caught:
+            rings_of(0)
+        self.assertEqual(caught.exception.given, 0)
+
+    def test_below_the_only_ring_of_503(self):
+        rows = [form for form in rings_of(-2012) if not form.roots()]
+        self.assertEqual([greatest(form) for form in rows], [(fields_of(-503)[0], 2)] * 3)
+        self.assertEqual(len(fields_of(-503)), 1)
+
+
+class Lists(unittest.TestCase):
+    """[6.1], [0.16]"""
+
+    def check(self, number):
+        forms = rings_of(number)
+        self.assertTrue(is_ordered(forms), number)
+        for form in forms:
+            self.assertIs(type(form), Form)
+            self.assertEqual(form.discriminant, number)
+            self.assertIs(is_least(form), True)
+        self.assertEqual(with_roots(number), tuple(form for form in forms if form.roots()))
+        self.assertEqual(fields_of(number), tuple(form for form in forms if not form.roots() and is_greatest(form)))
+        return forms
+
+    def test_small_discriminants_against_all_small_forms(self):
+        classes = {}
+        for row in itertools.product(range(4), range(-4, 6), range(-8, 9), range(-40, 41)):
+            number = Form(row).discriminant
+            if 0 < abs(number) <= 150:
+                classes.setdefault(number, set()).add(least_form(Form(row)).coefficients)
+        for number in range(-150, 151):
+            if number != 0:
+                forms = self.check(number)
+                self.assertEqual({form.coefficients for form in forms}, classes.get(number, set()), number)
+
+    def test_remainders_by_four(self):
+        for number in list(range(-60, 0)) + list(range(1, 60)) + list(GREAT):
+            forms = rings_of(number)
+            if number % 4 > 1:
+                self.assertEqual(forms, ())
+            else:
+                rest = number % 4
+                self.assertIn(Form((0, 1, rest, (rest - number) // 4)), forms)
+
+    def test_great_discriminants(self):
+        for number in GREAT:
+            self.assertEqual(len(self.check(number)) > 0, number % 4 < 2)
+
+    def test_classes_of_forms_with_great_discriminants(self):
+        for row in itertools.product((1, 2, 3), range(0, 14, 4), range(-9, 22, 5), range(-20, 21, 7)):
+            form = Form(row)
+            if 0 < abs(form.discriminant) <= MOST:
+                self.assertIn(least_form(form), rings_of(form.discriminant))
+
+    def test_forms_with_roots_by_the_words(self):
+        for number in list(range(-300, 0)) + [-2012, -MOST, -99999, -65536]:
+            rows = [(0, b, c, (c * c - number // (b * b)) // (4 * b))
+                    for b in range(1, 320) if number % (b * b) == 0
+                    for c in range(b + 1) if (c * c - number // (b * b)) % (4 * b) == 0]
+            self.assertEqual(with_roots(number), tuple(Form(row) for row in rows))
+
+
+class Roots(unittest.TestCase):
+    """[6.2]"""
+
+    def test_products_that_are_0(self):
+        for number in (1, 4, 49, -23, -27, 148, 81, -108, 16, 5, -4, 729):
+            for form in rings_of(number):
+                ring = Ring(form)
+                a, b, _, _ = form.coefficients
+                for x, y in form.roots():
+                    # The root tells a map to the integers, for which this element goes to 0.
+                    z = ring.w() + ring.one().scaled(-b if y == 0 else a * x // y)
+                    self.assertEqual((bool(z), z.norm), (True, (0, 1)))
+                    r, s, _ = z.polynomial
+                    rest = z * z + z.scaled(r[0]) + ring.one().scaled(s[0])
+                    self.assertFalse(bool(z * rest))
+                if not form.roots():
+                    for entries in itertools.product(range(-2, 3), repeat=3):
+                        self.assertEqual(ring.element(entries).norm[0] == 0, entries == (0, 0, 0))
+
+
+class Fundamental(unittest.TestCase):
+    """[6.4]"""
+
+    def test_numbers(self):
+        many = {}
+        numbers = list(range(-700, 701)) + [-3299, -3896, 32009, 62501, -27355, -99995, 99989, 99993]
+        for number in numbers:
+            if is_fundamental(number):
+                forms = rings_of(number)
+                self.assertEqual(len(with_roots(number)), 1)
+                self.assertEqual(len(fields_of(number)), len(forms) - 1)
+                self.assertTrue(all(is_greatest(form) for form in forms))
+                self.assertIn(len(forms) - 1, (0, 1, 4, 13))
+                many[len(forms) - 1] = many.get(len(forms) - 1, 0) + 1
+        self.assertEqual(sorted(many), [0, 1, 4])
+
+    def test_some_by_name(self):
+        self.assertEqual(len(fields_of(-3299)), 4)
+        self.assertEqual(len(fields_of(32009)), 4)
+        self.assertEqual([len(fields_of(number)) for number in (-23, -31, -3, 1, 5, 229, 257)], [1, 1, 0, 0, 0, 1, 1])
+
+    def test_all_greatest_rings_with_small_discriminants(self):
+        found = [number for number in range(-200, 400) if number != 0 and fields_of(number)]
+        self.assertEqual(found, [-200, -199, -175, -172, -152, -140, -139, -135, -116, -108, -107, -104, -87, -83,
+                                 -76, -59, -44, -31, -23, 49, 81, 148, 169, 229, 257, 316, 321, 361])
+
+
+class RingsTo(Refusals, unittest.TestCase):
+    """[6.1]"""
+
+    def test_both_sides(self):
+        for most in (1, 2, 3, 4, 5, 24, 99, 300):
+            over = rings_to(most)
+            self.assertEqual(over, rings_to(most, below=False))
+            self.assertIs(type(over), dict)
+            self.assertEqual(list(over), [number for number in range(1, most + 1) if rings_of(number)])
+            self.assertEqual(list(over), [number for number in range(1, most + 1) if number % 4 < 2])
+            under = rings_to(most, below=True)
+            self.assertEqual(list(under), [number for number in range(-most, 0) if number % 4 < 2])
+            for number, forms in list(over.items()) + list(under.items()):
+                self.assertEqual(forms, rings_of(number))
+        self.assertEqual(rings_to(2, below=True), {})
+
+    def test_the_keyword(self):
+        parameters = inspect.signature(rings_to).parameters
+        self.assertIs(parameters["below"].kind, inspect.Parameter.KEYWORD_ONLY)
+        self.assertIs(parameters["below"].default, False)
+        with self.assertRaises(TypeError):
+            rings_to(5, True)
+
+    def test_the_bounds(self):
+        for value in (0, -1, 301, LONGEST) + NO_INTEGERS:
+            self.refuses_number(InvalidNumber, value, rings_to, value)
+            with self.assertRaises(InvalidNumber):
+                rings_to(value, below=None)
+
+    def test_wrong_keywords(self):
+        for value in (0, 1, None, "True", (), (True,), [True], {}, {True: True}, LONG, nested(8)) + NO_TUPLES:
+            if not isinstance(value, bool):
+                with self.assertRaises(InvalidOperation) as caught:
+                    rings_to(5, below=value)
+                self.assertIs(type(caught.exception), InvalidOperation)
+
+
+class Numbers(Refusals, unittest.TestCase):
+    """[0.7], and the errors of the stage"""
+
+    def test_numbers_that_are_refused(self):
+        for value in (0, MOST + 1, -MOST - 1, 10 ** 6, LONGEST) + NO_INTEGERS:
+            for call in FUNCTIONS:
+                self.refuses_number(InvalidNumber, value, call, value)
+
+    def test_the_bounds_are_let(self):
+        for value in (1, -1, 2, -2, MOST, -MOST):
+            for call in FUNCTIONS:
+                self.assertIs(type(call(value)), tuple)
+
+
+class NotTrue(unittest.TestCase):
+    """[6.5], [0.20]"""
+
+    def test_all_have_a_root(self):
+        self.assertEqual(rings_of(-27), with_roots(-27))
+        self.assertEqual(len(rings_of(-27)), 2)
+
+    def test_no_greatest_one(self):
+        self.assertEqual(len(rings_of(-2012)) - len(with_roots(-2012)), 3)
+        self.assertEqual(fields_of(-2012), ())
+
+    def test_several_with_a_root(self):
+        self.assertEqual(len(with_roots(16)), 2)
+
+    def test_a_greatest_ring_without_a_fundamental_discriminant(self):
+        self.assertIs(is_fundamental(49), False)
+        self.assertEqual(told(fields_of(49)), ["(1, 2, -1, -1)"])
+        self.assertIs(is_fundamental(-108), False)
+
+    def test_unlike_ones_with_one_discriminant(self):
+        self.assertEqual(len(fields_of(-3299)), 4)
+
+
+if __name__ == "__main__":
+    unittest.main()

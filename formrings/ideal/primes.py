@@ -1,0 +1,179 @@
+"""Prime ideals, and what ideals are made of."""
+
+from formrings.above.places import END, first_bar, is_full
+from formrings.above.steps import check_stepped
+from formrings.base.checks import check_between, is_any_integer
+from formrings.base.integers import check_prime, factored, raised
+from formrings.base.lattices import index_of_plain, is_row_of
+from formrings.errors import Refused, TooMany
+from formrings.form.forms import check_form
+from formrings.ideal.ideals import check_ideal, ideal_of, quotient_of
+from formrings.ideal.spans import is_kept, lowest, products, times_rows
+from formrings.prime.residues import kind_of, root_times
+from formrings.ring.rings import check_ring, table_for
+from formrings.ring.triples import UNITS
+
+MAX_LISTED_NORM = 100
+MAX_NORM = 1000000
+DEGREES = {"three": (1, 1, 1), "pair": (1, 2), "none": (3,), "twice": (1, 1), "thrice": (1,)}
+
+
+def check_greatest(form):
+    """Refuse forms with the discriminant 0, with one that is too great, and with a ring that is not greatest."""
+    check_stepped(form)
+    if first_bar(form.coefficients) is not None:
+        raise Refused(("bar",))
+
+
+def multiple_of_ring(ring, number):
+    """The ring, multiplied by an integer above 0, as an ideal."""
+    return ideal_of(ring, times_rows(UNITS, number), 1)
+
+
+def prime_of_root(ring, prime, place):
+    """The prime ideal that a root tells."""
+    a, b, c, _ = ring.form.coefficients
+    if place == END:
+        return ideal_of(ring, ((prime, 0, 0), (-b, 1, 0), (0, 0, 1)), 1)
+    x, _ = place
+    return ideal_of(ring, ((prime, 0, 0), (a * x, 1, 0), (a * x * x + b * x + c, 0, 1)), 1)
+
+
+def primes_at(ring, prime):
+    """The list of the pairs (ideal, degree) of all prime ideals over the prime, in their told sequence."""
+    if is_full(ring.form.coefficients, prime):
+        return [(ideal_of(ring, ((prime, 0, 0), (0, 1, 0), (0, 0, 1)), 1), 1)]
+    roots, rest = root_times(ring.form.coefficients, prime)
+    every = multiple_of_ring(ring, prime)
+    if len(roots) == 0:
+        return [(every, 3)]
+    rows = sorted([prime_of_root(ring, prime, place).rows for place, _ in roots])
+    found = [(ideal_of(ring, row, 1), 1) for row in rows]
+    if len(rest) > 1:
+        found.append((quotient_of(every, found[0][0]), 2))
+    return found
+
+
+def is_part_of(ideal, other):
+    """Whether an ideal within the ring is a part of another one within it."""
+    return all([is_row_of(other.rows, row) for row in ideal.rows])
+
+
+def times_of(ideal, over):
+    """How often an ideal within a greatest ring has the prime ideal as a factor."""
+    back = quotient_of(multiple_of_ring(ideal.ring, 1), over)
+    left = ideal
+    times = 0
+    while is_part_of(left, over):
+        left = left * back
+        times += 1
+    return times
+
+
+def factor_pairs(ideal):
+    """The list of the prime ideals that an ideal of a greatest ring is made of, each with its number of times."""
+    upper = ideal_of(ideal.ring, ideal.rows, 1)
+    lower = multiple_of_ring(ideal.ring, ideal.bottom)
+    found = []
+    for prime, _ in factored(index_of_plain(ideal.rows) * ideal.bottom):
+        for over, _ in primes_at(ideal.ring, prime):
+            times = times_of(upper, over) - times_of(lower, over)
+            if times != 0:
+                found.append((over, times))
+    return found
+
+
+def is_same_pair(value, pair):
+    """Whether the value is a pair of an equal ideal and the same number."""
+    if not isinstance(value, tuple) or len(value) != 2 or not is_any_integer(value[1]):
+        return False
+    return pair[0] == value[0] and pair[1] == value[1]
+
+
+def plain_rows_of(prime, times):
+    """The plain rows of all lattices of triples whose index is this power of the prime."""
+    found = []
+    for first in range(times + 1):
+        for second in range(times + 1 - first):
+            i, j, k = raised(prime, first), raised(prime, second), raised(prime, times - first - second)
+            for x in range(j):
+                for y in range(k):
+                    found.extend([((i, x, y), (0, j, z), (0, 0, k)) for z in range(k)])
+    return found
+
+
+def rows_with_norm(table, norm):
+    """The ascending list of the plain rows of all ideals that lie in the ring of the table and have the norm."""
+    found = [UNITS]
+    for prime, times in factored(norm):
+        # An ideal is in just one way the product of ideals whose norms are powers of unlike primes.
+        parts = [rows for rows in plain_rows_of(prime, times) if is_kept(table, rows)]
+        found = [lowest(products(table, one, other), 1)[0] for one in found for other in parts]
+    return sorted(found)
+
+
+def ways_to_sum(size, degrees):
+    """How many ways there are to write the size as a sum of the degrees, each taken some times from 0 on."""
+    found = [1] + [0] * size
+    for degree in degrees:
+        for at in range(degree, size + 1):
+            found[at] = found[at] + found[at - degree]
+    return found[size]
+
+
+def primes_over(ring, prime):
+    """The tuple of the pairs (ideal, degree) of all prime ideals over the prime."""
+    check_ring(ring)
+    check_prime(prime)
+    return tuple(primes_at(ring, prime))
+
+
+def is_prime_ideal(ideal):
+    """Whether the ideal is prime."""
+    check_ideal(ideal)
+    if ideal.bottom > 1:
+        return False
+    size = index_of_plain(ideal.rows)
+    if size > MAX_NORM:
+        raise TooMany(MAX_NORM)
+    factors = factored(size)
+    if len(factors) != 1:
+        return False
+    prime, times = factors[0]
+    # As many classes as a prime make a field. So there is no search for the roots at great primes.
+    return times == 1 or any([ideal == over for over, _ in primes_at(ideal.ring, prime)])
+
+
+def factors_of(ideal):
+    """The tuple of the pairs of a prime ideal, and of how often the ideal has it as a factor."""
+    check_ideal(ideal)
+    check_greatest(ideal.ring.form)
+    if ideal.bottom > MAX_NORM or index_of_plain(ideal.rows) > MAX_NORM:
+        raise TooMany(MAX_NORM)
+    return tuple(factor_pairs(ideal))
+
+
+def is_factors(ideal, value):
+    """Whether the value is a tuple of the pairs of factors_of, in any sequence."""
+    pairs = factors_of(ideal)
+    if not isinstance(value, tuple) or len(value) != len(pairs):
+        return False
+    return all([any([is_same_pair(item, pair) for item in value]) for pair in pairs])
+
+
+def ideals_of(ring, norm):
+    """The tuple of all ideals that lie in the ring and have this norm."""
+    check_ring(ring)
+    check_between(norm, 1, MAX_LISTED_NORM)
+    return tuple([ideal_of(ring, rows, 1) for rows in rows_with_norm(table_for(ring), norm)])
+
+
+def count_ideals(form, norm):
+    """How many ideals that lie in the ring of the form have this norm."""
+    check_form(form)
+    check_between(norm, 1, MAX_NORM)
+    check_greatest(form)
+    result = 1
+    for prime, times in factored(norm):
+        result = result * ways_to_sum(times, DEGREES[kind_of(form.coefficients, prime)])
+    return result

@@ -1,0 +1,1 @@
+"""Forms modulo primes."""

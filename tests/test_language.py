@@ -103,6 +103,12 @@ class Language(unittest.TestCase):
                         defined.add(item.targets[0].id)
                 self.assertLessEqual(names, defined, name)
 
+    def test_imports_are_used(self):
+        for name, tree in trees():
+            names = {alias.name for node in ast.walk(tree) if isinstance(node, ast.ImportFrom) for alias in node.names}
+            used = {node.id for node in ast.walk(tree) if isinstance(node, ast.Name)}
+            self.assertLessEqual(names, used, name)
+
     def test_no_cycles(self):
         needs = {}
         for name, tree in trees():

@@ -4,7 +4,7 @@ from formrings.above.places import END, first_bar, is_full
 from formrings.above.steps import check_stepped
 from formrings.base.checks import check_between, is_any_integer
 from formrings.base.integers import check_prime, factored, raised
-from formrings.base.lattices import index_of_plain, is_row_of
+from formrings.base.lattices import index_of_plain, is_row_of, plain_rows
 from formrings.errors import Refused, TooMany
 from formrings.form.forms import check_form
 from formrings.ideal.ideals import check_ideal, ideal_of, quotient_of
@@ -30,25 +30,26 @@ def multiple_of_ring(ring, number):
     return ideal_of(ring, times_rows(UNITS, number), 1)
 
 
-def prime_of_root(ring, prime, place):
-    """The prime ideal that a root tells."""
-    a, b, c, _ = ring.form.coefficients
+def rows_of_root(coefficients, prime, place):
+    """The plain rows of the prime ideal that a root tells."""
+    a, b, c, _ = coefficients
     if place == END:
-        return ideal_of(ring, ((prime, 0, 0), (-b, 1, 0), (0, 0, 1)), 1)
+        return plain_rows(((prime, 0, 0), (-b, 1, 0), (0, 0, 1)))
     x, _ = place
-    return ideal_of(ring, ((prime, 0, 0), (a * x, 1, 0), (a * x * x + b * x + c, 0, 1)), 1)
+    return plain_rows(((prime, 0, 0), (a * x, 1, 0), (a * x * x + b * x + c, 0, 1)))
 
 
 def primes_at(ring, prime):
     """The list of the pairs (ideal, degree) of all prime ideals over the prime, in their told sequence."""
-    if is_full(ring.form.coefficients, prime):
+    coefficients = ring.form.coefficients
+    if is_full(coefficients, prime):
         return [(ideal_of(ring, ((prime, 0, 0), (0, 1, 0), (0, 0, 1)), 1), 1)]
-    roots, rest = root_times(ring.form.coefficients, prime)
+    roots, rest = root_times(coefficients, prime)
     every = multiple_of_ring(ring, prime)
     if len(roots) == 0:
         return [(every, 3)]
-    rows = sorted([prime_of_root(ring, prime, place).rows for place, _ in roots])
-    found = [(ideal_of(ring, row, 1), 1) for row in rows]
+    told = sorted([rows_of_root(coefficients, prime, place) for place, _ in roots])
+    found = [(ideal_of(ring, rows, 1), 1) for rows in told]
     if len(rest) > 1:
         found.append((quotient_of(every, found[0][0]), 2))
     return found

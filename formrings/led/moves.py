@@ -119,9 +119,9 @@ def low_step(coefficients):
 def near_double(coefficients):
     """Nearly a multiple of the double (a, b + a h, c + b h + a h h), where h is the only real root of the form."""
     a, b, c, d = coefficients
-    places = 8 * max([number.bit_length() for number in coefficients])
+    places = 4 * max([number.bit_length() for number in coefficients])
     root = over_only_root((b << places, (a * c) << (2 * places), (a * a * d) << (3 * places)))
-    # root is near a h, moved by the places.
+    # The root is near a h, moved by the places. Few of them make the way longer, and not wrong.
     first = (a * a) << (2 * places)
     middle = (a * ((b << places) + root)) << places
     return (first, middle, ((a * c) << (2 * places)) + ((b * root) << places) + root * root)

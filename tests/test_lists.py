@@ -149,6 +149,13 @@ class Fundamental(unittest.TestCase):
         self.assertEqual(len(fields_of(32009)), 4)
         self.assertEqual([len(fields_of(number)) for number in (-23, -31, -3, 1, 5, 229, 257)], [1, 1, 0, 0, 0, 1, 1])
 
+    def test_how_many_greatest_rings_without_roots(self):
+        # As the tables of cubic fields tell it.
+        for most, under, over in ((100, 7, 2), (1000, 127, 27), (10000, 1520, 382)):
+            numbers = range(1, most + 1)
+            self.assertEqual(sum(len(fields_of(number)) for number in numbers if number % 4 < 2), over)
+            self.assertEqual(sum(len(fields_of(-number)) for number in numbers if -number % 4 < 2), under)
+
     def test_all_greatest_rings_with_small_discriminants(self):
         found = [number for number in range(-200, 400) if number != 0 and fields_of(number)]
         self.assertEqual(found, [-200, -199, -175, -172, -152, -140, -139, -135, -116, -108, -107, -104, -87, -83,
@@ -224,6 +231,11 @@ class NotTrue(unittest.TestCase):
         self.assertIs(is_fundamental(49), False)
         self.assertEqual(told(fields_of(49)), ["(1, 2, -1, -1)"])
         self.assertIs(is_fundamental(-108), False)
+
+    def test_a_greatest_ring_whose_indices_are_all_even(self):
+        form = fields_of(-503)[0]
+        self.assertTrue(all(form(x, y) % 2 == 0 for x in range(-5, 6) for y in range(-5, 6)))
+        self.assertEqual((form.content, is_greatest(form)), (1, True))
 
     def test_unlike_ones_with_one_discriminant(self):
         self.assertEqual(len(fields_of(-3299)), 4)

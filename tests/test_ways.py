@@ -310,6 +310,13 @@ class NotTrue(unittest.TestCase):
         self.assertNotIn(BACK, turns(CUBIC))
         self.assertEqual(ways(CUBIC, -CUBIC), (BACK,))
 
+    def test_forms_with_turns_of_order_three(self):
+        for (_, _, many), forms in FORMS.items():
+            for form in forms:
+                found = [form.led(change).coefficients for change in changes_to(4)]
+                shaped = any(c == b - 3 * a and d == -a for a, b, c, d in found)
+                self.assertIs(shaped, many % 3 == 0, form.coefficients)
+
     def test_turns_of_order_three(self):
         for a in range(-3, 4):
             for b in range(-4, 5):

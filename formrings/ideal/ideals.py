@@ -57,8 +57,10 @@ def ratio_text(ratio):
 
 def ideal_of(ring, rows, bottom):
     """The ideal that rows of any length tell, over a bottom above 0. The rows are known to tell one."""
+    found, under = lowest(rows, bottom)
     ideal = Ideal(ring, UNITS)
-    ideal._rows, ideal._bottom = lowest(rows, bottom)
+    ideal._rows = found
+    ideal._bottom = under
     return ideal
 
 
@@ -71,10 +73,12 @@ class Ideal:
         check_under(bottom)
         if determinant_by(rows) == 0:
             raise InvalidIdeal("the determinant of the rows is 0")
-        self._ring = ring
-        self._rows, self._bottom = lowest(rows, bottom)
-        if not is_kept(table_for(ring), self._rows):
+        found, under = lowest(rows, bottom)
+        if not is_kept(table_for(ring), found):
             raise InvalidIdeal("a product with w or t is missing")
+        self._ring = ring
+        self._rows = found
+        self._bottom = under
 
     @property
     def ring(self):

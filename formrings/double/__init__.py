@@ -1,0 +1,1 @@
+"""Classes of forms of degree two."""

@@ -1,0 +1,1 @@
+"""Rings of third roots, and forms with turns of order three."""

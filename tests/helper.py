@@ -2,9 +2,12 @@
 
 import random
 
+from formrings.box.boxes import Box
 from formrings.form.doubles import Double
 from formrings.form.forms import Form
+from formrings.ideal.ideals import whole
 from formrings.ring.rings import Ring
+from formrings.shelf.shelf import Shelf
 
 CUBIC, ROUND, PLAIN, ROOT = Form((1, 1, 2, 1)), Form((1, 2, -1, -1)), Form((0, 1, 1, 0)), Form((1, 0, 0, -2))
 NOTHING = Form((0, 0, 0, 0))
@@ -22,7 +25,9 @@ def nested(depth):
     return value
 
 
-OBJECTS = (CUBIC, Double((1, 0, 1)), Ring(CUBIC), Ring(CUBIC).w())
+OBJECTS = (
+    CUBIC, Double((1, 0, 1)), Ring(CUBIC), Ring(CUBIC).w(), whole(Ring(CUBIC)), Box(((1, 2, 3),) * 3, ((0, 1, 0),) * 3),
+    Shelf())
 NO_INTEGERS = (
     None, True, False, "", "1", "a\tb\n", (), (1,), (1, 2), [], [1], {}, {1: 2}, ((1, 2), (3, 4)),
     LONG, -LONG, 10 ** 99, -10 ** 99,

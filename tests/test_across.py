@@ -7,7 +7,8 @@ import unittest
 from formrings.above.counts import count_below, form_below, tables_below
 from formrings.above.steps import above, bar, behind, below, greatest, heavy_places, is_greatest, path, roots_at
 from formrings.base.integers import is_fundamental
-from formrings.double.classes import ring_count, thirds
+from formrings.box.boxes import box_of, is_balanced
+from formrings.double.classes import classes_of, first_class, power_of, ring_count, thirds
 from formrings.form.forms import Form
 from formrings.ideal.ideals import Ideal, dual, is_undone, quotient, whole
 from formrings.ideal.primes import ideals_of, primes_over
@@ -17,8 +18,11 @@ from formrings.listing.lists import fields_of, rings_of, with_roots
 from formrings.makers.makers import all_makers, common_index, maker_bar, makers
 from formrings.prime.kinds import kind_at, kinds_to, maps_at
 from formrings.ring.rings import Ring, index_of, ring_by_table
+from formrings.shelf.shelf import Shelf
 from formrings.special.squares import is_turning, square_fields
-from tests.helper import CUBIC, NOTHING, PLAIN, ROOT, ROUND, some_changes
+from formrings.text.texts import read, write
+from formrings.threefold.threefolds import form_of_threefold, threefolds_of
+from tests.helper import CUBIC, IDLE, NOTHING, PLAIN, ROOT, ROUND, determinant, some_changes
 
 # Discriminants above and below 0, squares and others; one, three or no roots; contents; rings that are not greatest.
 FORMS = [CUBIC, ROUND, PLAIN, ROOT, Form((0, 1, 1, 6)), Form((1, 0, -4, -1)), Form((3, 5, 7, 6)), Form((0, 2, 1, 3)),
@@ -213,6 +217,133 @@ class Discriminants(unittest.TestCase):
             turned = tuple(form for form in fields_of(side * side) if len(turns(form)) == 3)
             self.assertEqual(turned, fields_of(side * side))
             self.assertEqual(square_fields(side), fields_of(side * side))
+
+
+class Thirds(unittest.TestCase):
+    """[0.17], [15.3]"""
+
+    def test_small_hessians_and_third_powers(self):
+        for number in [number for number in range(-500, 0) if number % 4 < 2] + [-3299, -4027]:
+            right = 0
+            for double in classes_of(number):
+                found = threefolds_of(double)
+                self.assertEqual(len(found) > 0, power_of(double, 3) == first_class(number))
+                for row in found:
+                    a, b, c, d = form_of_threefold(row).coefficients
+                    self.assertEqual((b % 3, c % 3), (0, 0))
+                    hessian = Form((a, b, c, d)).hessian.coefficients
+                    self.assertEqual(hessian, tuple(9 * each for each in double.coefficients))
+                right += len(found) > 0
+            self.assertEqual(right, thirds(number))
+
+
+class Turns(unittest.TestCase):
+    """[0.18]"""
+
+    def test_turns_of_order_three(self):
+        for number in [side * side for side in range(1, 40)] + [229, 148, 5, 8, 12, -23]:
+            for form in rings_of(number):
+                third = [turn for turn in turns(form) if turn != IDLE and determinant(turn) == 1]
+                self.assertEqual(len(third) > 0, is_turning(form))
+                if is_greatest(form) and not form.roots():
+                    self.assertEqual(len(third) > 0, math.isqrt(abs(number)) ** 2 == number)
+
+
+class Boxes(unittest.TestCase):
+    """[0.19]"""
+
+    def test_boxes_of_balanced_ideals(self):
+        for form in FORMS:
+            ring = Ring(form)
+            for prime in (2, 3, 5):
+                for one, _ in primes_over(ring, prime):
+                    other = quotient(whole(ring), one)
+                    (i, j), (k, m) = one.norm, other.norm
+                    self.assertEqual(is_balanced(one, other), i * k == j * m)
+                    box = box_of(one, other)
+                    self.assertEqual(box.form.times(j * m), form.times(i * k))
+                    if is_undone(one):
+                        self.assertIs(is_balanced(one, other), True)
+                        self.assertEqual(box.form, form)
+
+
+class Shelves(unittest.TestCase):
+    """[17.5], [17.2]"""
+
+    def test_what_is_led_keeps_what_is_said(self):
+        for form in FORMS:
+            shelf = Shelf()
+            shelf.do(("put", "a", form), ("put", "b", form))
+            for saying in (("alike", "a", "b"), ("discriminant", "a", form.discriminant), ("kind", "b", 5, kind_at(form, 5))):
+                shelf.say(saying)
+            for name, prime in (("c", 2), ("d", 3)):
+                for place in roots_at(form, prime)[:1]:
+                    shelf.do(("put", name, form), ("down", name, prime, place))
+                    shelf.say(("below", name, "a", prime))
+            for change in some_changes(205, 8):
+                shelf.do(("lead", "a", change), ("lead", "b", change))
+                shelf.do(("least", "b"))
+                self.assertTrue(all(shelf.is_true(saying) for saying in shelf.sayings))
+                self.assertEqual(read(write(shelf["a"])), shelf["a"])
+
+
+class NotTrue(unittest.TestCase):
+    """[0.20]"""
+
+    def test_rings_with_one_discriminant(self):
+        self.assertEqual(len(fields_of(-3299)), 4)
+        self.assertFalse(any(are_led(*pair) for pair in itertools.combinations(fields_of(-3299), 2)))
+
+    def test_rings_that_are_alike_modulo_each_integer(self):
+        form = Form((0, 1, 1, 2))
+        within = [below(form, 2, place) for place in roots_at(form, 2)]
+        self.assertEqual(len(within), 3)
+        self.assertEqual(len({least_form(each).coefficients for each in within}), 2)
+        # Modulo each integer of some size a change with a determinant of 1 or -1 there leads the one to the other.
+        for one, other in itertools.permutations(within, 2):
+            for modulus in (2, 3, 4, 5, 8):
+                self.assertTrue(self.are_alike_modulo(one, other, modulus))
+
+    def are_alike_modulo(self, one, other, n):
+        wanted = tuple(number % n for number in other.coefficients)
+        for p, q, r, s in itertools.product(range(n), repeat=4):
+            e = (p * s - q * r) % n
+            if e not in (1, n - 1):
+                continue
+            # By the words of [0.10], at enough places to tell a form of degree three by its rests.
+            e = 1 if e == 1 else -1
+            a, b, c, d = one.coefficients
+            second = 3 * a * p * p * r + b * p * (p * s + 2 * q * r) + c * q * (2 * p * s + q * r) + 3 * d * q * q * s
+            third = 3 * a * p * r * r + b * r * (2 * p * s + q * r) + c * s * (p * s + 2 * q * r) + 3 * d * q * s * s
+            if tuple(e * each % n for each in (one(p, q), second, third, one(r, s))) == wanted:
+                return True
+        return False
+
+    def test_no_ring_above_with_a_prime_index(self):
+        form = Form((2, 2, 0, 2))
+        self.assertIs(is_greatest(form), False)
+        for prime in (2, 3, 5, 7, 11, 13, 31):
+            self.assertEqual(heavy_places(form, prime), ())
+        self.assertEqual(path(form), (("part", 2),))
+
+    def test_a_greatest_ring_that_no_element_makes(self):
+        form, = fields_of(-503)
+        self.assertEqual((common_index(form), makers(form, 50), is_greatest(form)), (2, (), True))
+
+    def test_a_square_without_a_turn(self):
+        form = Form((0, 1, 2, 0))
+        self.assertEqual((form.discriminant, len([turn for turn in turns(form) if determinant(turn) == 1])), (4, 1))
+
+    def test_a_square_divisor(self):
+        for number in (49, -44, 148, -108):
+            self.assertGreater(len(fields_of(number)), 0)
+            self.assertGreater(len(square_sides(number)), 1)
+
+    def test_two_forms_with_one_hessian(self):
+        one, other = Form((1, 0, 0, 6)), Form((2, 0, 0, 3))
+        self.assertEqual(one.hessian, other.hessian)
+        self.assertNotIn(one, (other, -other))
+        self.assertIs(are_led(one, other), False)
 
 
 class Tables(unittest.TestCase):

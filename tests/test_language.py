@@ -170,6 +170,20 @@ class Language(unittest.TestCase):
                 if isinstance(node, ast.Call):
                     self.assertFalse(node.keywords and isinstance(node.func, ast.Name) and node.func.id in BUILTINS)
 
+    def test_tables_are_not_passed_on(self):
+        for name, tree in trees():
+            tables = {node.targets[0].id for node in tree.body
+                      if isinstance(node, ast.Assign) and isinstance(node.value, (ast.Dict, ast.List))}
+            free = set()
+            for node in ast.walk(tree):
+                if isinstance(node, ast.Subscript):
+                    free.add(node.value)
+                elif isinstance(node, ast.Compare) and isinstance(node.ops[-1], (ast.In, ast.NotIn)):
+                    free.add(node.comparators[-1])
+            for node in ast.walk(tree):
+                if isinstance(node, ast.Name) and isinstance(node.ctx, ast.Load) and node.id in tables:
+                    self.assertIn(node, free, (name, node.lineno))
+
     def test_decorators(self):
         for name, tree in trees():
             for node in ast.walk(tree):

@@ -36,6 +36,12 @@ def goes(coefficients, table):
     return all([moved % number == 0 for moved in moved_by(coefficients, table)])
 
 
+def by_table(coefficients, table):
+    """The coefficients of the form by a table that goes for the form."""
+    number = table[0][0] * table[1][1]
+    return tuple([moved // number for moved in moved_by(coefficients, table)])
+
+
 def tables_of(coefficients, number):
     """The ascending list of all tables with this index that go for the form."""
     found = []
@@ -81,8 +87,7 @@ def form_below(form, table):
     check_form(form)
     if not is_table_of_index(table) or not goes(form.coefficients, table):
         raise InvalidOperation("the table is none that goes for the form")
-    number = table[0][0] * table[1][1]
-    return form_of(tuple([moved // number for moved in moved_by(form.coefficients, table)]))
+    return form_of(by_table(form.coefficients, table))
 
 
 def count_below(form, number):

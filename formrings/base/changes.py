@@ -22,9 +22,14 @@ def is_change(value):
     return determinant_of(value) in (1, -1)
 
 
+def is_short_change(value):
+    """Whether the value is a change, with integers of at most sixty digits."""
+    return is_change(value) and all([are_short_integers(row, 2) for row in value])
+
+
 def check_change(value):
     """Refuse what is no change, or has an integer of more than sixty digits."""
-    if not is_change(value) or not all([are_short_integers(row, 2) for row in value]):
+    if not is_short_change(value):
         raise InvalidChange("a change is a pair of pairs of integers with the determinant 1 or -1")
 
 

@@ -8,10 +8,15 @@ from formrings.led.moves import least_of, way_down
 MOST_DIGITS = 20
 
 
+def are_within_digits(coefficients):
+    """Whether no coefficient has more than MOST_DIGITS digits."""
+    limit = raised(10, MOST_DIGITS)
+    return all([-limit < number < limit for number in coefficients])
+
+
 def check_digits(form):
     """Refuse a form with a coefficient of more than MOST_DIGITS digits."""
-    limit = raised(10, MOST_DIGITS)
-    if not all([-limit < number < limit for number in form.coefficients]):
+    if not are_within_digits(form.coefficients):
         raise TooMany(MOST_DIGITS)
 
 

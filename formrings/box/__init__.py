@@ -1,0 +1,1 @@
+"""Pairs of tables, and the ideals that they tell."""

@@ -1,0 +1,1 @@
+"""A shelf that keeps forms by names."""

@@ -1,0 +1,1 @@
+"""Forms with threefold middle coefficients."""

@@ -94,6 +94,29 @@ class Lists(unittest.TestCase):
         for number in GREAT:
             self.assertEqual(len(self.check(number)) > 0, number % 4 < 2)
 
+    def test_lists_near_the_bounds(self):
+        for number, rows in (
+                (-99999, [(0, 1, 1, 25000), (0, 3, 1, 926)]),
+                (-100000, [(0, 1, 0, 25000), (0, 2, 0, 3125), (0, 5, 0, 200), (0, 10, 0, 25)]),
+                (100000, [(0, 1, 0, -25000), (0, 2, 0, -3125), (0, 5, 0, -200), (0, 10, 0, -25)]),
+                (99997, [(0, 1, 1, -24999), (3, -7, -19, 0)]),
+                (-99468, [(0, 1, 0, 24867), (0, 3, 0, 921), (3, 3, 21, 3), (3, 5, 7, 23), (3, 9, -6, 12), (3, 9, 21, 33),
+                          (3, 12, 18, 30), (5, 1, 17, 3), (5, 14, 15, 18), (7, 16, 22, 18)]),
+                (-99776, [(0, 1, 0, 24944), (0, 2, 0, 3118), (0, 4, 2, 390), (0, 8, 3, 49), (2, 10, 12, 32), (4, 0, 17, 7),
+                          (4, 6, 20, 16), (4, 10, 4, 14), (4, 16, 17, 19), (7, 2, 15, 4)]),
+                (98304, [(0, 1, 0, -24576), (0, 2, 0, -3072), (0, 4, 0, -384), (0, 4, 4, -383), (0, 8, 0, -48),
+                         (0, 8, 8, -46), (0, 16, 0, -6), (0, 16, 8, -5), (0, 16, 16, -2)]),
+                (99225, [(0, 1, 1, -24806), (0, 3, 3, -918), (0, 5, 3, -198), (0, 7, 3, -72), (0, 9, 1, -34),
+                         (0, 15, 9, -6), (2, 7, -17, -10), (3, 9, -12, -11)])):
+            self.assertEqual([form.coefficients for form in rings_of(number)], rows)
+
+    def test_how_many_rings(self):
+        # Counted once by another search, by all first three coefficients, and by all reduced Hessians.
+        self.assertEqual(sum(len(rings_of(number)) for number in range(-3000, 0)), 2659)
+        self.assertEqual(sum(len(rings_of(number)) for number in range(1, 3001)), 2145)
+        self.assertEqual(sum(len(rings_of(number)) for number in range(-60300, -60000)), 306)
+        self.assertEqual(sum(len(rings_of(number)) for number in range(60000, 60300)), 246)
+
     def test_classes_of_forms_with_great_discriminants(self):
         for row in itertools.product((1, 2, 3), range(0, 14, 4), range(-9, 22, 5), range(-20, 21, 7)):
             form = Form(row)

@@ -1,33 +1,21 @@
 """The search for all least forms with a discriminant other than 0, by their coefficients.
 
 For a form (a, b, c, d) with the discriminant D let P be b b - 3 a c, and G be 2 b b b - 9 a b c + 27 a a d, the first
-coefficients of the Hessian and of the covariant: G G + 27 D a a is 4 P P P. So P, D and a tell G but for the sign.
+coefficients of the Hessian and of the covariant: G G + 27 D a a is 4 P P P. So few of the pairs of an a and a P have
+a G, and a, P and G tell the form but for a change that moves x by a multiple of y.
 """
 
 from math import isqrt
 
 from formrings.base.integers import whole_root
-from formrings.form.forms import form_discriminant, form_hessian
 from formrings.form.roots import form_roots
 from formrings.led.moves import is_lone_least, least_of
 
 
-def signed_roots(number):
-    """The integers whose square is the number."""
-    if number < 0:
-        return []
-    root = isqrt(number)
-    if root * root != number:
-        return []
-    return [root, -root] if root > 0 else [0]
-
-
-def with_end(number):
-    """The least forms (0, b, c, d), with b above 0, of a discriminant below 0."""
+def with_end(number, most):
+    """All forms (0, b, c, d) with this discriminant, where b goes from 1 to most, and c from 0 to b."""
     found = []
-    for b in range(1, isqrt(-number) + 1):
-        if number % (b * b) != 0:
-            continue
+    for b in [side for side in range(1, most + 1) if number % (side * side) == 0]:
         inner = number // (b * b)
         for c in range(b + 1):
             if (c * c - inner) % (4 * b) == 0:
@@ -35,103 +23,61 @@ def with_end(number):
     return found
 
 
-def greatest_third(number, a, b):
-    """No form without roots that is least, and begins with a and b, has a third coefficient above this one."""
-    # The double (a, B, C) of the form has |B| <= a <= C. With M = C - B B / (4 a) the size of the discriminant is at
-    # least 4 a M M M, and c is M + b b / (4 a) - b h / 2 - 3 a h h / 4, greatest in h at -b / (3 a) or at the border.
-    middle = whole_root(-number // (4 * a), 3) + 1
-    if 3 * a >= 2 * b:
-        return middle + b * b // (3 * a) + 1
-    return middle + b
-
-
-def lone_ends(number, a, b, c):
-    """The integers d for which (a, b, c, d) has the discriminant."""
-    inner = b * b - 3 * a * c
-    square = 27 * a * a
+def with_start(a, first, top, most):
+    """The forms (a, b, c, d) with this P and this G, where a is above 0, and b goes from 0 to most."""
     found = []
-    for top in signed_roots(4 * inner * inner * inner - square * number):
-        if (top - 2 * b * b * b + 9 * a * b * c) % square == 0:
-            found.append((top - 2 * b * b * b + 9 * a * b * c) // square)
+    for b in range(most + 1):
+        if (b * b - first) % (3 * a) != 0:
+            continue
+        c = (b * b - first) // (3 * a)
+        last = top - 2 * b * b * b + 9 * a * b * c
+        if last % (27 * a * a) == 0:
+            found.append((a, b, c, last // (27 * a * a)))
     return found
+
+
+def square_pairs(number, a, low, high):
+    """The pairs of a P from low to high, and of the G of at least 0 that a and P have with this discriminant."""
+    rest = 27 * number * a * a
+    # P is a square modulo 3.
+    sides = [(first, isqrt(4 * first * first * first - rest)) for first in range(low, high + 1) if first % 3 != 2]
+    return [(first, side) for first, side in sides if side * side == 4 * first * first * first - rest]
 
 
 def without_roots(number):
     """The least forms without roots of a discriminant below 0."""
     found = []
-    # With B = b + a h as above, the size of the discriminant is at least 27 a a a a / 16, and at least
-    # 3 a a (a h h + B h + C) squared; so (b - 3 B / 2) squared is at most its third's root, less 3 a a / 4.
-    most = isqrt(isqrt(-16 * number // 27))
-    for a in range(1, most + 1):
-        for b in range(3 * a // 2 + isqrt(isqrt(-number // 3) + 1) + 3):
-            for c in range(1 - b, greatest_third(number, a, b) + 1):
-                for d in lone_ends(number, a, b, c):
-                    if is_lone_least((a, b, c, d)) and len(form_roots((a, b, c, d))) == 0:
-                        found.append((a, b, c, d))
-    return found
+    # The double (a, B, C) of the form has |B| < a < C, where B is b + a h. Let Y be a C - B B / 4, above 3 a a / 4.
+    # Then P + 4 Y is a times the root of |D| / (4 Y), and so is (b - 3 B / 2) squared, plus Y. Both fall with Y.
+    root = isqrt(-number // 3)
+    for a in range(1, isqrt(isqrt(-16 * number // 27)) + 1):
+        low = -whole_root(-27 * number * a * a // 4, 3)
+        most = 3 * a // 2 + isqrt(root + 1) + 2
+        for first, side in square_pairs(number, a, low, root - 3 * a * a):
+            for top in (side, -side) if side > 0 else (0,):
+                found.extend(with_start(a, first, top, most))
+    return [form for form in found if is_lone_least(form) and len(form_roots(form)) == 0]
 
 
-def low_hessians(number):
-    """The doubles (P, Q, R) with 0 <= Q <= P <= R whose discriminant is -3 times this one above 0."""
-    found = []
-    for first in range(1, isqrt(number) + 1):
-        for middle in range(first + 1):
-            quarter = 3 * number + middle * middle
-            if quarter % (4 * first) == 0 and quarter // (4 * first) >= first:
-                found.append((first, middle, quarter // (4 * first)))
-    return found
-
-
-def with_first(hessian, a, top):
-    """The form with a first coefficient other than 0, by its Hessian and G; None where it is not of integers."""
-    first, middle, _ = hessian
-    if (3 * a * middle + top) % (2 * first) != 0:
-        return None
-    b = (3 * a * middle + top) // (2 * first)
-    if (b * b - first) % (3 * a) != 0:
-        return None
-    c = (b * b - first) // (3 * a)
-    if (b * c - middle) % (9 * a) != 0:
-        return None
-    return (a, b, c, (b * c - middle) // (9 * a))
-
-
-def with_no_first(hessian):
-    """The forms (0, b, c, d) that have this Hessian."""
-    first, middle, last = hessian
-    found = []
-    for b in signed_roots(first):
-        c = middle // b
-        if b * c == middle and (c * c - last) % (3 * b) == 0:
-            found.append((0, b, c, (c * c - last) // (3 * b)))
-    return found
-
-
-def forms_by_hessian(number, hessian):
-    """All forms that have the discriminant above 0 and this Hessian."""
-    cube = 4 * hessian[0] * hessian[0] * hessian[0]
-    found = with_no_first(hessian)
-    most = isqrt(cube // (27 * number))
-    for a in [size for size in range(-most, most + 1) if size != 0]:
-        for top in signed_roots(cube - 27 * number * a * a):
-            form = with_first(hessian, a, top)
-            if form is not None and form_hessian(form) == hessian:
-                found.append(form)
-    return [form for form in found if form_discriminant(form) == number]
-
-
-def least_by_hessians(number):
-    """The least forms of a discriminant above 0."""
-    found = []
-    for hessian in low_hessians(number):
-        for form in forms_by_hessian(number, hessian):
-            if least_of(form) == form:
-                found.append(form)
+def above_zero(number):
+    """Some forms of each class with a discriminant above 0."""
+    # The Hessian (P, Q, R) of the least form has 0 <= Q <= P <= R, so P is at most the root of D. The forms (0, b, c, d)
+    # have the square of b as their P. A change that takes x back takes G back, and keeps a and P.
+    found = with_end(number, isqrt(isqrt(number)))
+    most = isqrt(number)
+    for a in range(1, isqrt(4 * most // 27) + 1):
+        # The least P for which 4 P P P is at least 27 D a a.
+        low = whole_root((27 * number * a * a - 1) // 4, 3) + 1
+        for first, side in square_pairs(number, a, low, most):
+            found.extend(with_start(a, first, side, 3 * a - 1))
     return found
 
 
 def least_forms(number):
     """The ascending list of the least forms with a discriminant other than 0."""
-    if number > 0:
-        return sorted(least_by_hessians(number))
-    return sorted(with_end(number) + without_roots(number))
+    if number % 4 > 1:
+        return []
+    if number < 0:
+        return sorted(with_end(number, isqrt(-number)) + without_roots(number))
+    least = {least_of(form): True for form in above_zero(number)}
+    return sorted(list(least))

@@ -1,7 +1,7 @@
 """Places, roots and heavy roots at primes, over coefficients of any length."""
 
 from formrings.base.checks import are_any_integers, is_between
-from formrings.base.integers import GREATEST_PRIME, factored, is_prime, shared_divisor
+from formrings.base.integers import GREATEST_PRIME, is_prime, primes_twice, shared_divisor
 from formrings.form.forms import form_discriminant, form_value
 
 END = (1, 0)
@@ -83,9 +83,7 @@ def form_divided(coefficients, number):
 
 def first_bar(coefficients):
     """The bar with the least prime, the content first; None if the ring, whose discriminant is not 0, is greatest."""
-    for prime, times in factored(abs(form_discriminant(coefficients))):
-        if times == 1:
-            continue
+    for prime in primes_twice(abs(form_discriminant(coefficients))):
         if is_full(coefficients, prime):
             return ("content", prime)
         places = places_of_heavy_roots(coefficients, prime)

@@ -14,9 +14,10 @@ MAX_STEPPED = 100000000
 def check_stepped(form):
     """Refuse what is no form, the discriminant 0, and discriminants that are too great."""
     check_form(form)
-    if form.discriminant == 0:
+    number = form.discriminant
+    if number == 0:
         raise InvalidOperation("the discriminant is 0")
-    if abs(form.discriminant) > MAX_STEPPED:
+    if abs(number) > MAX_STEPPED:
         raise TooMany(MAX_STEPPED)
 
 

@@ -34,7 +34,8 @@ def are_short_integers(value, many):
     """Whether the value is a tuple of so many integers of at most sixty digits."""
     if not isinstance(value, tuple) or len(value) != many:
         return False
-    return all([is_short_integer(number) for number in value])
+    # The same as is_short_integer, written out, since rows are checked often.
+    return all([isinstance(n, int) and not isinstance(n, bool) and -LIMIT < n < LIMIT for n in value])
 
 
 def is_written_integer(word):

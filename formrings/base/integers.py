@@ -93,6 +93,23 @@ def factored(number):
     return tuple(found)
 
 
+def primes_twice(number):
+    """The ascending list of the primes whose squares divide a number above 0."""
+    found = []
+    left = number
+    divisor = 2
+    while divisor * divisor * divisor <= left:
+        if left % divisor == 0:
+            times = times_within(left, divisor)
+            left = left // raised(divisor, times)
+            if times > 1:
+                found.append(divisor)
+        divisor = divisor + 2 if divisor > 2 else 3
+    # What is left has at most two primes.
+    side = isqrt(left)
+    return found + [side] if side > 1 and side * side == left else found
+
+
 def raised(base, exponent):
     """The power of an integer with an exponent of at least 0."""
     result = 1
@@ -119,7 +136,7 @@ def whole_root(number, exponent):
 
 def is_square_free(number):
     """Whether the square of no prime divides an integer other than 0."""
-    return all([times == 1 for _, times in factored(abs(number))])
+    return len(primes_twice(abs(number))) == 0
 
 
 def is_fundamental(number):

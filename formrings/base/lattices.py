@@ -1,5 +1,7 @@
 """Lattices of rows of two or three integers."""
 
+from math import gcd
+
 from formrings.base.checks import are_short_integers
 from formrings.errors import InvalidOperation, Refused
 
@@ -15,58 +17,59 @@ def check_rows(rows):
         raise InvalidOperation("the rows are not tuples of equally many integers, two or three")
 
 
-def less(row, other, times):
-    """The row less so many times the other one."""
-    return tuple([first - times * second for first, second in zip(row, other)])
+def widened(rows):
+    """Rows of three integers: rows of two are made wider by a 0."""
+    return rows if len(rows[0]) == 3 else [(x, y, 0) for x, y in rows]
 
 
-def parted(step, row, at):
-    """Two rows with the same sums of multiples as the given ones, the second one with 0 at the index."""
-    first, second = step, row
-    while second[at] != 0:
-        first, second = second, less(first, second, first[at] // second[at])
-    return first, second
+def steps_of(rows):
+    """The integers (a, b, c, d, e, f) of rows (a, b, c), (0, d, e), (0, 0, f) with the same lattice as some rows."""
+    a = b = c = d = e = f = 0
+    for x, y, z in rows:
+        if x != 0:
+            if a != 0:
+                times = x // a
+                x, y, z = x - times * a, y - times * b, z - times * c
+            while x != 0:
+                times = a // x
+                a, b, c, x, y, z = x, y, z, a - times * x, b - times * y, c - times * z
+        if y != 0:
+            if d != 0:
+                times = y // d
+                y, z = y - times * d, z - times * e
+            while y != 0:
+                times = d // y
+                d, e, y, z = y, z, d - times * y, e - times * z
+            # Made small each time, here and below, so that the integers do not grow from row to row.
+            times = b // d
+            b, c = b - times * d, c - times * e
+        if z != 0:
+            f = gcd(f, z)
+        if f != 0:
+            c, e = c % f, e % f
+    return (a, b, c, d, e, f)
 
 
-def with_row(steps, row):
-    """The steps of the lattice that has the row, too."""
-    found = []
-    left = row
-    for at, step in enumerate(steps):
-        kept, left = parted(step, left, at)
-        found.append(kept)
-    return found
-
-
-def upright(step, at):
-    """The row or its opposite, so that it has no integer below 0 at the index."""
-    return less(step, step, 2) if step[at] < 0 else step
-
-
-def tidied(steps):
-    """The steps with integers above 0 at their indices, and small ones behind."""
-    above = [upright(step, at) for at, step in enumerate(steps)]
-    found = []
-    for at, step in enumerate(above):
-        row = step
-        for behind in range(at + 1, len(above)):
-            if above[behind][behind] != 0:
-                row = less(row, above[behind], row[behind] // above[behind][behind])
-        found.append(row)
-    return found
+def plain_of_three(rows):
+    """The plain rows of the lattice of rows of three integers of any length: Refused if it has too few."""
+    a, b, c, d, e, f = steps_of(rows)
+    if a == 0 or d == 0 or f == 0:
+        raise Refused(("rank",))
+    if a < 0:
+        a, b, c = -a, -b, -c
+    if d < 0:
+        d, e = -d, -e
+    times = b // d
+    return ((a, b - times * d, (c - times * e) % f), (0, d, e % f), (0, 0, f))
 
 
 def plain_rows(rows):
     """The plain rows of the lattice of rows of integers of any length: Refused if it has too few."""
-    wide = len(rows[0])
-    # A row of zeros stands for a step that no row has told yet.
-    steps = [(0,) * wide for _ in range(wide)]
-    for row in rows:
-        # Tidied each time, so that the integers do not grow from row to row.
-        steps = tidied(with_row(steps, row))
-    if not all([step[at] != 0 for at, step in enumerate(steps)]):
-        raise Refused(("rank",))
-    return tuple(steps)
+    if len(rows[0]) == 3:
+        return plain_of_three(rows)
+    # A third row that has nothing to do with the others.
+    first, second, _ = plain_of_three(widened(rows) + [(0, 0, 1)])
+    return (first[:2], second[:2])
 
 
 def index_of_plain(plain):
@@ -77,14 +80,22 @@ def index_of_plain(plain):
     return result
 
 
+def is_row_of_three(plain, row):
+    """Whether a row of three integers is in the lattice with these plain rows."""
+    (a, b, c), (_, d, e), (_, _, f) = plain
+    x, y, z = row
+    if x % a != 0:
+        return False
+    times = x // a
+    y, z = y - times * b, z - times * c
+    return y % d == 0 and (z - y // d * e) % f == 0
+
+
 def is_row_of(plain, row):
     """Whether a row is in the lattice with these plain rows."""
-    left = row
-    for at, step in enumerate(plain):
-        if left[at] % step[at] != 0:
-            return False
-        left = less(left, step, left[at] // step[at])
-    return True
+    if len(row) == 3:
+        return is_row_of_three(plain, row)
+    return is_row_of_three(widened(plain) + [(0, 0, 1)], (row[0], row[1], 0))
 
 
 def least_rows(rows):

@@ -55,13 +55,18 @@ def ratio_text(ratio):
     return f"{top}/{bottom}"
 
 
+def plain_ideal(ring, plain, bottom):
+    """The ideal with plain rows of any length over a bottom, in lowest terms. They are known to tell one."""
+    ideal = Ideal(ring, UNITS)
+    ideal._rows = plain
+    ideal._bottom = bottom
+    return ideal
+
+
 def ideal_of(ring, rows, bottom):
     """The ideal that rows of any length tell, over a bottom above 0. The rows are known to tell one."""
-    found, under = lowest(rows, bottom)
-    ideal = Ideal(ring, UNITS)
-    ideal._rows = found
-    ideal._bottom = under
-    return ideal
+    plain, under = lowest(rows, bottom)
+    return plain_ideal(ring, plain, under)
 
 
 class Ideal:
@@ -74,7 +79,8 @@ class Ideal:
         if determinant_by(rows) == 0:
             raise InvalidIdeal("the determinant of the rows is 0")
         found, under = lowest(rows, bottom)
-        if not is_kept(table_for(ring), found):
+        # The ring itself is an ideal.
+        if found != UNITS and not is_kept(table_for(ring), found):
             raise InvalidIdeal("a product with w or t is missing")
         self._ring = ring
         self._rows = found
@@ -182,15 +188,28 @@ def dual(ideal):
     return ideal_of(ideal.ring, times_rows(rows, ideal.bottom), bottom)
 
 
+def back_of(ideal):
+    """The rows and the bottom of (R : I) for an ideal I of a ring R, in lowest terms."""
+    rows, bottom = maps_into(table_for(ideal.ring), UNITS, ideal.rows)
+    return lowest(times_rows(rows, ideal.bottom), bottom)
+
+
+def is_undone_by(ideal, back):
+    """Whether the product of an ideal with these rows over a bottom is the ring."""
+    rows, bottom = back
+    return lowest(products(table_for(ideal.ring), ideal.rows, rows), ideal.bottom * bottom) == (UNITS, 1)
+
+
 def is_undone(ideal):
     """Whether a product of the ideal with another one is the ring."""
     check_ideal(ideal)
-    ring = ideal_of(ideal.ring, UNITS, 1)
-    return ideal * quotient_of(ring, ideal) == ring
+    return is_undone_by(ideal, back_of(ideal))
 
 
 def inverse_of(ideal):
     """The ideal that undoes this one."""
-    if not is_undone(ideal):
+    check_ideal(ideal)
+    rows, bottom = back_of(ideal)
+    if not is_undone_by(ideal, (rows, bottom)):
         raise Refused(("undone",))
-    return quotient_of(ideal_of(ideal.ring, UNITS, 1), ideal)
+    return plain_ideal(ideal.ring, rows, bottom)

@@ -4,10 +4,10 @@ from formrings.above.places import END, first_bar, is_full
 from formrings.above.steps import check_stepped
 from formrings.base.checks import check_between, is_any_integer
 from formrings.base.integers import check_prime, factored, raised
-from formrings.base.lattices import index_of_plain, is_row_of, plain_rows
+from formrings.base.lattices import index_of_plain, is_row_of_three, plain_rows
 from formrings.errors import Refused, TooMany
 from formrings.form.forms import check_form
-from formrings.ideal.ideals import check_ideal, ideal_of, quotient_of
+from formrings.ideal.ideals import back_of, check_ideal, plain_ideal, quotient_of
 from formrings.ideal.spans import is_kept, lowest, products, times_rows
 from formrings.prime.residues import kind_of, root_times
 from formrings.ring.rings import check_ring, table_for
@@ -27,7 +27,7 @@ def check_greatest(form):
 
 def multiple_of_ring(ring, number):
     """The ring, multiplied by an integer above 0, as an ideal."""
-    return ideal_of(ring, times_rows(UNITS, number), 1)
+    return plain_ideal(ring, ((number, 0, 0), (0, number, 0), (0, 0, number)), 1)
 
 
 def rows_of_root(coefficients, prime, place):
@@ -43,42 +43,46 @@ def primes_at(ring, prime):
     """The list of the pairs (ideal, degree) of all prime ideals over the prime, in their told sequence."""
     coefficients = ring.form.coefficients
     if is_full(coefficients, prime):
-        return [(ideal_of(ring, ((prime, 0, 0), (0, 1, 0), (0, 0, 1)), 1), 1)]
+        return [(plain_ideal(ring, ((prime, 0, 0), (0, 1, 0), (0, 0, 1)), 1), 1)]
     roots, rest = root_times(coefficients, prime)
     every = multiple_of_ring(ring, prime)
     if len(roots) == 0:
         return [(every, 3)]
     told = sorted([rows_of_root(coefficients, prime, place) for place, _ in roots])
-    found = [(ideal_of(ring, rows, 1), 1) for rows in told]
+    found = [(plain_ideal(ring, rows, 1), 1) for rows in told]
     if len(rest) > 1:
         found.append((quotient_of(every, found[0][0]), 2))
     return found
 
 
-def is_part_of(ideal, other):
-    """Whether an ideal within the ring is a part of another one within it."""
-    return all([is_row_of(other.rows, row) for row in ideal.rows])
+def is_part_of(rows, others):
+    """Whether all rows are in the lattice of the other ones, which are plain."""
+    return all([is_row_of_three(others, row) for row in rows])
 
 
-def times_of(ideal, over):
-    """How often an ideal within a greatest ring has the prime ideal as a factor."""
-    back = quotient_of(multiple_of_ring(ideal.ring, 1), over)
-    left = ideal
+def times_of(table, rows, over, back):
+    """How often a prime ideal is a factor of an ideal within a greatest ring, both told by their plain rows.
+
+    What takes the prime ideal back is told by rows and a bottom.
+    """
+    others, bottom = back
+    left = rows
     times = 0
     while is_part_of(left, over):
-        left = left * back
+        left, _ = lowest(products(table, left, others), bottom)
         times += 1
     return times
 
 
 def factor_pairs(ideal):
     """The list of the prime ideals that an ideal of a greatest ring is made of, each with its number of times."""
-    upper = ideal_of(ideal.ring, ideal.rows, 1)
-    lower = multiple_of_ring(ideal.ring, ideal.bottom)
+    table = table_for(ideal.ring)
+    lower = times_rows(UNITS, ideal.bottom)
     found = []
     for prime, _ in factored(index_of_plain(ideal.rows) * ideal.bottom):
         for over, _ in primes_at(ideal.ring, prime):
-            times = times_of(upper, over) - times_of(lower, over)
+            back = back_of(over)
+            times = times_of(table, ideal.rows, over.rows, back) - times_of(table, lower, over.rows, back)
             if times != 0:
                 found.append((over, times))
     return found
@@ -166,7 +170,7 @@ def ideals_of(ring, norm):
     """The tuple of all ideals that lie in the ring and have this norm."""
     check_ring(ring)
     check_between(norm, 1, MAX_LISTED_NORM)
-    return tuple([ideal_of(ring, rows, 1) for rows in rows_with_norm(table_for(ring), norm)])
+    return tuple([plain_ideal(ring, rows, 1) for rows in rows_with_norm(table_for(ring), norm)])
 
 
 def count_ideals(form, norm):

@@ -61,8 +61,8 @@ def without_roots(number):
 
 def above_zero(number):
     """Some forms of each class with a discriminant above 0."""
-    # The Hessian (P, Q, R) of the least form has 0 <= Q <= P <= R, so P is at most the root of D. The forms (0, b, c, d)
-    # have the square of b as their P. A change that takes x back takes G back, and keeps a and P.
+    # The Hessian (P, Q, R) of the least form has 0 <= Q <= P <= R, so P is at most the root of D. For (0, b, c, d) it
+    # is the square of b. A change that takes x back takes G back, and keeps a and P.
     found = with_end(number, isqrt(isqrt(number)))
     most = isqrt(number)
     for a in range(1, isqrt(4 * most // 27) + 1):

@@ -42,7 +42,13 @@ def determinant_by(rows):
 
 def map_by(table, entries):
     """The rows of the products of a triple with 1, w and t."""
-    return [product_by(table, entries, unit) for unit in UNITS]
+    (a, b, c), (d, e, f), (g, h, i) = table
+    u, x, y = entries
+    return [
+        entries,
+        (x * a + y * d, u + x * b + y * e, x * c + y * f),
+        (x * d + y * g, x * e + y * h, u + x * f + y * i),
+    ]
 
 
 def trace_by(table, entries):

@@ -2,9 +2,12 @@
 
 from formrings.base.checks import are_any_integers, is_between
 from formrings.base.integers import GREATEST_PRIME, is_prime, primes_twice, shared_divisor
-from formrings.form.forms import form_discriminant, form_value
+from formrings.base.polynomials import inverse_at, roots_of
+from formrings.form.forms import form_discriminant, form_hessian, form_value
 
 END = (1, 0)
+# Roots at primes below this one are found by trying all residues, which is shorter there.
+GREAT = 1000
 
 
 def is_place(value, prime):
@@ -36,14 +39,31 @@ def places_of_roots(coefficients, prime):
     """The ascending list of the roots of the form at the prime."""
     # Long coefficients are brought down once, ahead of the loop.
     a, b, c, d = [number % prime for number in coefficients]
-    found = [(x, 1) for x in range(prime) if (((a * x + b) * x + c) * x + d) % prime == 0]
-    return sorted(found + [END]) if a == 0 else found
+    if prime < GREAT or not any([a, b, c, d]):
+        found = [(x, 1) for x in range(prime) if (((a * x + b) * x + c) * x + d) % prime == 0]
+    else:
+        found = [(x, 1) for x in roots_of([a, b, c, d], prime)]
+    return sorted(found + [END] if a == 0 else found)
+
+
+def multiple_place(coefficients, prime):
+    """The only place that can be a root twice, at a prime from 5 on that does not divide the content."""
+    first, middle, _ = [number % prime for number in form_hessian(coefficients)]
+    a, b, _, _ = [number % prime for number in coefficients]
+    # Twice, it is the only root of the Hessian; three times, the Hessian is 0, and the form a third power.
+    top, bottom = (middle, 2 * first) if middle != 0 or first != 0 else (b, 3 * a)
+    return END if bottom % prime == 0 else (-top * inverse_at(bottom, prime) % prime, 1)
 
 
 def places_of_heavy_roots(coefficients, prime):
     """The ascending list of the heavy roots of the form at the prime."""
     short = tuple([number % (prime * prime) for number in coefficients])
-    return [place for place in places_of_roots(short, prime) if is_heavy_at(short, prime, place)]
+    # A heavy root is there twice, modulo the prime.
+    if prime < 5 or is_full(short, prime):
+        places = places_of_roots(short, prime)
+    else:
+        places = [multiple_place(short, prime)]
+    return [place for place in places if is_heavy_at(short, prime, place)]
 
 
 def is_full(coefficients, prime):

@@ -3,12 +3,14 @@
 from math import gcd, isqrt
 
 from formrings.base.checks import are_short_integers, check_between, is_short_integer
+from formrings.base.polynomials import power_at
 from formrings.errors import InvalidNumber, InvalidOperation
 
 MAX_PRIME = 10 ** 6
 MAX_FACTORED = 10 ** 12
 MAX_FUNDAMENTAL = 10 ** 9
 MOST_NUMBERS = 1000
+ASKED = 501
 GREATEST_PRIME = 10000
 
 
@@ -76,6 +78,25 @@ def times_within(number, prime):
     return times
 
 
+def is_great_prime(number):
+    """Whether an odd number above 1, of at most MAX_FACTORED, and with no divisor up to 13, is a prime."""
+    odd = number - 1
+    halves = 0
+    while odd % 2 == 0:
+        odd = odd // 2
+        halves += 1
+    # Each number of this size that is no prime is told by one of these.
+    for base in (2, 3, 5, 7, 11, 13):
+        power = power_at(base, odd, number)
+        squares = 1
+        while squares < halves and power not in (1, number - 1):
+            power = power * power % number
+            squares += 1
+        if power != number - 1 and (power != 1 or squares > 1):
+            return False
+    return True
+
+
 def factored(number):
     """The ascending pairs of a prime that divides the number, and of how often it does."""
     check_between(number, 1, MAX_FACTORED)
@@ -83,6 +104,9 @@ def factored(number):
     left = number
     divisor = 2
     while divisor * divisor <= left:
+        if divisor == ASKED and is_great_prime(left):
+            # So there is no search for divisors up to its root.
+            break
         if left % divisor == 0:
             times = times_within(left, divisor)
             found.append((divisor, times))

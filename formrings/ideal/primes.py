@@ -4,11 +4,11 @@ from formrings.above.places import END, first_bar, is_full
 from formrings.above.steps import check_stepped
 from formrings.base.checks import check_between, is_any_integer
 from formrings.base.integers import check_prime, factored, raised
-from formrings.base.lattices import index_of_plain, is_row_of_three, plain_rows
+from formrings.base.lattices import index_of_plain, is_row_of_three, plain_of_three
 from formrings.errors import Refused, TooMany
 from formrings.form.forms import check_form
 from formrings.ideal.ideals import back_of, check_ideal, plain_ideal, quotient_of
-from formrings.ideal.spans import is_kept, lowest, products, times_rows
+from formrings.ideal.spans import lowest, products, times_rows
 from formrings.prime.residues import kind_of, root_times
 from formrings.ring.rings import check_ring, table_for
 from formrings.ring.triples import UNITS
@@ -34,9 +34,9 @@ def rows_of_root(coefficients, prime, place):
     """The plain rows of the prime ideal that a root tells."""
     a, b, c, _ = coefficients
     if place == END:
-        return plain_rows(((prime, 0, 0), (-b, 1, 0), (0, 0, 1)))
+        return plain_of_three(((prime, 0, 0), (-b, 1, 0), (0, 0, 1)))
     x, _ = place
-    return plain_rows(((prime, 0, 0), (a * x, 1, 0), (a * x * x + b * x + c, 0, 1)))
+    return plain_of_three(((prime, 0, 0), (a * x, 1, 0), (a * x * x + b * x + c, 0, 1)))
 
 
 def primes_at(ring, prime):
@@ -95,25 +95,61 @@ def is_same_pair(value, pair):
     return pair[0] == value[0] and pair[1] == value[1]
 
 
-def plain_rows_of(prime, times):
-    """The plain rows of all lattices of triples whose index is this power of the prime."""
-    found = []
-    for first in range(times + 1):
-        for second in range(times + 1 - first):
-            i, j, k = raised(prime, first), raised(prime, second), raised(prime, times - first - second)
-            for x in range(j):
-                for y in range(k):
-                    found.extend([((i, x, y), (0, j, z), (0, 0, k)) for z in range(k)])
-    return found
+def times_row(row, number):
+    """The row, all its integers multiplied."""
+    u, x, y = row
+    return (number * u, number * x, number * y)
 
 
-def rows_with_norm(table, norm):
-    """The ascending list of the plain rows of all ideals that lie in the ring of the table and have the norm."""
+def less_row(row, other, times):
+    """The row, less so many times another one."""
+    return tuple([one - times * two for one, two in zip(row, other)])
+
+
+def parts_of_index(rows, prime):
+    """The plain rows of all lattices within that of three rows, with the prime as their index there."""
+    first, second, third = rows
+    found = [(times_row(first, prime), second, third)]
+    for other in range(prime):
+        found.append((less_row(first, second, other), times_row(second, prime), third))
+    for one in range(prime):
+        for other in range(prime):
+            found.append((less_row(first, third, one), less_row(second, third, other), times_row(third, prime)))
+    return [plain_of_three(part) for part in found]
+
+
+def next_parts(table, rows, over, size):
+    """The plain rows of all ideals within one, by which it falls into so many classes as the ring by a prime ideal."""
+    product = plain_of_three(products(table, rows, over))
+    if index_of_plain(product) == index_of_plain(rows) * size:
+        return [product]
+    # The size is a prime: as the classes are told by integers, each lattice between the two is an ideal.
+    return [part for part in parts_of_index(rows, size) if is_part_of(product, part)]
+
+
+def rows_with_power(ring, prime, times):
+    """The plain rows of all ideals that lie in the ring, and have this power of the prime as their norm."""
+    table = table_for(ring)
+    told = [[UNITS]]
+    for exponent in range(1, times + 1):
+        found = {}
+        for over, degree in primes_at(ring, prime):
+            uppers = told[exponent - degree] if degree <= exponent else []
+            for rows in uppers:
+                for part in next_parts(table, rows, over.rows, raised(prime, degree)):
+                    found[part] = True
+        told.append(list(found))
+    return told[times]
+
+
+def rows_with_norm(ring, norm):
+    """The ascending list of the plain rows of all ideals that lie in the ring and have the norm."""
+    table = table_for(ring)
     found = [UNITS]
     for prime, times in factored(norm):
         # An ideal is in just one way the product of ideals whose norms are powers of unlike primes.
-        parts = [rows for rows in plain_rows_of(prime, times) if is_kept(table, rows)]
-        found = [lowest(products(table, one, other), 1)[0] for one in found for other in parts]
+        parts = rows_with_power(ring, prime, times)
+        found = [plain_of_three(products(table, one, other)) for one in found for other in parts]
     return sorted(found)
 
 
@@ -170,7 +206,7 @@ def ideals_of(ring, norm):
     """The tuple of all ideals that lie in the ring and have this norm."""
     check_ring(ring)
     check_between(norm, 1, MAX_LISTED_NORM)
-    return tuple([plain_ideal(ring, rows, 1) for rows in rows_with_norm(table_for(ring), norm)])
+    return tuple([plain_ideal(ring, rows, 1) for rows in rows_with_norm(ring, norm)])
 
 
 def count_ideals(form, norm):

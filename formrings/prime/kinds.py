@@ -3,9 +3,10 @@
 from formrings.above.places import END, is_full, places_of_roots
 from formrings.base.checks import check_between
 from formrings.base.integers import check_prime, is_prime, times_within
+from formrings.base.polynomials import inverse_at
 from formrings.errors import Refused
 from formrings.form.forms import check_form
-from formrings.prime.residues import factor_of, inverse_at, kind_of, root_times
+from formrings.prime.residues import factor_of, kind_of, root_times
 
 MAX_PRIME = 10000
 MAX_KINDS = 1000

@@ -3,24 +3,6 @@
 from formrings.above.places import END, is_full, places_of_roots
 
 
-def power_at(base, exponent, prime):
-    """The power of a residue with an exponent of at least 0."""
-    result = 1
-    square = base % prime
-    left = exponent
-    while left > 0:
-        if left & 1 == 1:
-            result = result * square % prime
-        square = square * square % prime
-        left = left >> 1
-    return result
-
-
-def inverse_at(number, prime):
-    """The residue whose product with the number is 1, for a number that the prime does not divide."""
-    return power_at(number, prime - 2, prime)
-
-
 def value_at(row, x, prime):
     """The residue of the polynomial in x whose coefficients the row has, the highest power first."""
     result = 0

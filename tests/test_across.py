@@ -189,7 +189,8 @@ class Discriminants(unittest.TestCase):
 
     def test_lists_by_greatest_rings(self):
         # Several rings within can be alike, by a turn of the greatest one; without turns there are as many as counted.
-        for number in list(range(-260, 260)) + [-2012, -2023, 1125, 49 * 16, 81 * 9, -23 * 144, -31 * 81, 5 * 400, 3600]:
+        for number in list(range(-260, 260)) + [-2012, -2023, 1125, 49 * 16, 81 * 9, -23 * 144, -31 * 81, 5 * 400,
+                                                3600]:
             if number == 0:
                 continue
             found, many = set(), 0
@@ -274,7 +275,8 @@ class Shelves(unittest.TestCase):
         for form in FORMS:
             shelf = Shelf()
             shelf.do(("put", "a", form), ("put", "b", form))
-            for saying in (("alike", "a", "b"), ("discriminant", "a", form.discriminant), ("kind", "b", 5, kind_at(form, 5))):
+            for saying in (("alike", "a", "b"), ("discriminant", "a", form.discriminant),
+                           ("kind", "b", 5, kind_at(form, 5))):
                 shelf.say(saying)
             for name, prime in (("c", 2), ("d", 3)):
                 for place in roots_at(form, prime)[:1]:

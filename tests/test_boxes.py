@@ -143,7 +143,8 @@ class Boxes(Refusals, unittest.TestCase):
             self.assertTrue(BOX != other)
 
     def test_texts(self):
-        self.assertEqual(str(Box(((-1, 2, 30), (0, 0, 0), (5, -6, 7)), ONE)), "-1 2 30/0 0 0/5 -6 7 and 1 0 0/0 1 0/0 0 1")
+        self.assertEqual(str(Box(((-1, 2, 30), (0, 0, 0), (5, -6, 7)), ONE)),
+                         "-1 2 30/0 0 0/5 -6 7 and 1 0 0/0 1 0/0 0 1")
         for box in some_boxes(165, 5, LONGEST):
             parts = [tuple(tuple(map(int, row.split(" "))) for row in part.split("/")) for part in str(box).split(" and ")]
             self.assertEqual(parts, [box.first, box.second])
@@ -402,7 +403,8 @@ class Pairs(Refusals, unittest.TestCase):
         half = one.stretched(Ring(CUBIC).one().scaled(1, 2))
         double = other.stretched(Ring(CUBIC).one().scaled(2))
         self.assertIs(is_pair_of(BOX, (half, double, rows, columns)), True)
-        wrong = [(one, other, rows), value + (ONE,), list(value), (other, rows, columns, one), (one, one, rows, rows, ONE),
+        wrong = [(one, other, rows), value + (ONE,), list(value), (other, rows, columns, one),
+                 (one, one, rows, rows, ONE),
                  (half, other, rows, columns), (one, double, rows, columns), (double, half, rows, columns)[:3],
                  (stranger, stranger, rows, columns), (one, stranger, rows, columns), (stranger, other, rows, columns),
                  (one, other, scaled(-1, rows), columns), (one, other, rows, scaled(-1, columns)),

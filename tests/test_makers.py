@@ -179,6 +179,15 @@ class Bars(unittest.TestCase):
             self.assertEqual(bar, bar_by_words(Form(row)), row)
         self.assertLessEqual({None, 2, 3, 5, 7, 9, 13, 19, 31, 43, 59}, found)
 
+    def test_each_prime(self):
+        # x y y has each integer as a value.
+        for n in range(2, 62):
+            prime = all(n % divisor for divisor in range(2, n))
+            least = next(divisor for divisor in range(2, n + 1) if n % divisor == 0)
+            self.assertEqual(maker_bar(Form((0, 0, n, 0))), least if least <= 60 else None)
+            self.assertEqual(prime, least == n)
+            self.assertIsNone(maker_bar(Form((0, 0, 61 * 61, 0))))
+
     def test_no_makers_behind_a_bar(self):
         for form in [Form(row) for row in rows_of(125, 60, 4, 5)]:
             if maker_bar(form) is not None:

@@ -20,9 +20,11 @@ from tests.helper import (
 
 MOST = 10 ** 20 - 1
 NO_NAMES = NO_INTEGERS + NO_TUPLES + (
-    "A", "aB", "a1", "a b", "a_b", "a-b", " a", "a ", "a\n", "abcdefghi", "a" * 4000, "\u00e4", b"a", ("a",), ["a"], nested(8))
+    "A", "aB", "a1", "a b", "a_b", "a-b", " a", "a ", "a\n", "abcdefghi", "a" * 4000, "\u00e4", b"a", ("a",), ["a"],
+    nested(8))
 KINDS = ("all", "three", "pair", "none", "twice", "thrice")
-FORMS = [CUBIC, ROUND, PLAIN, ROOT, NOTHING, Form((2, 2, 0, 2)), Form((4, 2, 1, 1)), Form((0, 0, 3, 1)), Form((0, 1, 0, -1)),
+FORMS = [CUBIC, ROUND, PLAIN, ROOT, NOTHING, Form((2, 2, 0, 2)), Form((4, 2, 1, 1)), Form((0, 0, 3, 1)),
+         Form((0, 1, 0, -1)),
          Form((0, 2, 1, 0)), Form((1, 0, 0, -10)), Form((MOST, 0, 0, -MOST)), Form((12347, 3, 1, 98765))]
 
 
@@ -145,18 +147,20 @@ class Deeds(Checked):
             for prime in (2, 3, 5):
                 for place in roots_at(form, prime):
                     within = below(form, prime, place)
-                    alike = [each for each in heavy_places(within, prime) if are_led(above(within, prime, each), form)] \
-                        if max(map(abs, within.coefficients)) <= MOST // 100 else [None]
+                    if max(map(abs, within.coefficients)) > MOST // 100:
+                        continue
+                    places = heavy_places(within, prime)
+                    alike = [each for each in places if are_led(above(within, prime, each), form)]
                     self.assertGreater(len(alike), 0)
-                    if alike[0] is not None:
-                        shelf = Shelf()
-                        shelf.do(("put", "a", form), ("put", "b", form), ("down", "b", prime, place),
-                                 ("up", "b", prime, alike[0]))
-                        self.assertIs(shelf.is_true(("alike", "a", "b")), True)
+                    shelf = Shelf()
+                    shelf.do(("put", "a", form), ("put", "b", form), ("down", "b", prime, place))
+                    shelf.do(("up", "b", prime, alike[0]))
+                    self.assertIs(shelf.is_true(("alike", "a", "b")), True)
 
     def test_several(self):
         shelf = filled()
-        self.assertIsNone(shelf.do(("put", "c", ROUND), ("lead", "c", ((0, 1), (1, 0))), ("take", "a"), ("put", "a", PLAIN),
+        self.assertIsNone(shelf.do(("put", "c", ROUND), ("lead", "c", ((0, 1), (1, 0))), ("take", "a"),
+                                   ("put", "a", PLAIN),
                                    ("down", "b", 2, (1, 0)), ("least", "c")))
         self.assertEqual(shelf.forms, {"a": PLAIN, "abcdefgh": ROOT, "b": below(PLAIN, 2, (1, 0)), "c": ROUND,
                                        "zz": Form((2, 2, 0, 2))})
@@ -184,7 +188,8 @@ class Deeds(Checked):
         for row in ((MOST + 1, 0, 0, 1), (1, 0, 0, -MOST - 1), (0, LONGEST, 0, 0)):
             self.refused(shelf, InvalidOperation, {}, shelf.do, ("put", "a", Form(row)))
         self.refused(shelf, Refused, {"reason": ("great", 0)}, shelf.do, ("lead", "a", ((1, 0), (10, 1))))
-        self.refused(shelf, Refused, {"reason": ("great", 1)}, shelf.do, ("put", "b", PLAIN), ("lead", "b", ((1, 10 ** 21), (0, 1))))
+        self.refused(shelf, Refused, {"reason": ("great", 1)}, shelf.do, ("put", "b", PLAIN),
+                     ("lead", "b", ((1, 10 ** 21), (0, 1))))
         shelf.do(("put", "c", Form((0, 0, 0, 1))), ("lead", "c", ((1, 0), (1, 1))))
         self.refused(shelf, Refused, {"reason": ("great", 0)}, shelf.do, ("lead", "c", ((1, 10 ** 7), (0, 1))))
         # A longer one between is refused, too.
@@ -195,20 +200,26 @@ class Deeds(Checked):
     def test_values_that_are_no_deeds(self):
         shelf = filled()
         wrong = list(NO_TUPLES) + [
-            (), ("put",), ("put", "a"), ("put", "a", CUBIC, 1), ("take",), ("take", "a", 1), ("lead", "a"), ("lead", "a", IDLE, 1),
-            ("least",), ("least", "a", 1), ("up", "zz", 2), ("down", "b", 2), ("up", "zz", 2, (0, 1), 1), ("down", "b", 2, (0, 1), 1),
-            ("Put", "a", CUBIC), ("puts", "a", CUBIC), ("", "a"), (None, "a"), (b"take", "a"), (("take",), "a"), (["take"], "a"),
-            ("say", "a"), ("alike", "a", "b"), ["take", "a"], {"take": "a"}, "take a", nested(8), ("a", "take"), (True, "a"),
+            (), ("put",), ("put", "a"), ("put", "a", CUBIC, 1), ("take",), ("take", "a", 1), ("lead", "a"),
+            ("lead", "a", IDLE, 1),
+            ("least",), ("least", "a", 1), ("up", "zz", 2), ("down", "b", 2), ("up", "zz", 2, (0, 1), 1),
+            ("down", "b", 2, (0, 1), 1),
+            ("Put", "a", CUBIC), ("puts", "a", CUBIC), ("", "a"), (None, "a"), (b"take", "a"), (("take",), "a"),
+            (["take"], "a"),
+            ("say", "a"), ("alike", "a", "b"), ["take", "a"], {"take": "a"}, "take a", nested(8), ("a", "take"),
+            (True, "a"),
             (CUBIC, "a"), ({}, "a")]
         for value in NO_NAMES:
-            wrong += [("put", value, CUBIC), ("take", value), ("lead", value, IDLE), ("least", value), ("up", value, 2, (0, 1)),
+            wrong += [("put", value, CUBIC), ("take", value), ("lead", value, IDLE), ("least", value),
+                      ("up", value, 2, (0, 1)),
                       ("down", value, 2, (0, 1))]
         wrong += [("put", "a", value) for value in no_objects(Form) + [(1, 1, 2, 1)]]
         wrong += [("lead", "a", value) for value in NO_CHANGES + LONG_CHANGES if value != IDLE]
         for word in ("up", "down"):
             wrong += [(word, "b", value, (0, 1)) for value in NO_INTEGERS + (0, 1, 4, 91, 100, 101, 103, -2, LONGEST)]
             wrong += [(word, "b", 3, value) for value in NO_TUPLES + (
-                (), (0,), (0, 1, 0), (3, 1), (-1, 1), (1, 2), (0, 0), (0, -1), (2, 0), (-1, 0), (True, 1), (0, True), (1, False),
+                (), (0,), (0, 1, 0), (3, 1), (-1, 1), (1, 2), (0, 0), (0, -1), (2, 0), (-1, 0), (True, 1), (0, True),
+                (1, False),
                 (True, 0), ("0", 1), [0, 1], (LONG, 1), ((0, 1),), (None, 1), nested(8))]
         for value in wrong:
             self.refuses(InvalidOperation, {}, shelf.do, value)
@@ -227,7 +238,8 @@ class Deeds(Checked):
                 self.refused(shelf, error, kept, shelf.do, *deeds)
         # A name that is put ahead is known behind, and one that is taken is not.
         self.refused(shelf, UnknownName, {"wanted": "a"}, shelf.do, ("take", "a"), ("least", "a"))
-        for deed in (("take", "x"), ("lead", "x", IDLE), ("least", "x"), ("up", "x", 2, (0, 1)), ("down", "x", 2, (0, 1))):
+        for deed in (("take", "x"), ("lead", "x", IDLE), ("least", "x"), ("up", "x", 2, (0, 1)),
+                     ("down", "x", 2, (0, 1))):
             self.refused(shelf, UnknownName, {"wanted": "x"}, shelf.do, deed)
             self.refused(shelf, UnknownName, {"wanted": "x"}, shelf.do, ("take", "a"), deed, ("take", "y"))
         self.refused(shelf, Refused, {"reason": ("place", 1)}, shelf.do, ("put", "x", PLAIN), ("up", "x", 2, (0, 1)))
@@ -258,7 +270,8 @@ class Sayings(Checked):
     def test_true_and_false_ones(self):
         shelf = Shelf()
         names = []
-        for at, form in enumerate(FORMS + [below(PLAIN, 2, (0, 1)), ROUND.led(((0, 1), (1, 3))), below(ROOT, 5, (3, 1))]):
+        for at, form in enumerate(FORMS + [below(PLAIN, 2, (0, 1)), ROUND.led(((0, 1), (1, 3))),
+                                           below(ROOT, 5, (3, 1))]):
             names.append("abcdefghijklmnopqrst"[at])
             shelf.do(("put", names[-1], form))
         found = {True: 0, False: 0}
@@ -306,9 +319,12 @@ class Sayings(Checked):
         shelf = filled()
         shelf.say(("below", "a", "a", 1))
         wrong = list(NO_TUPLES) + list(OBJECTS) + [
-            (), ("alike",), ("alike", "a"), ("alike", "a", "a", "a"), ("below", "a", "a"), ("below", "a", "a", 1, 1), ("greatest",),
-            ("greatest", "a", "a"), ("discriminant", "a"), ("discriminant", "a", -23, 1), ("kind", "a", 2), ("kind", "a", 2, "none", 1),
-            ("Alike", "a", "a"), ("", "a"), (None, "a"), (b"greatest", "a"), (["greatest"], "a"), (("greatest",), "a"), ("put", "a", CUBIC),
+            (), ("alike",), ("alike", "a"), ("alike", "a", "a", "a"), ("below", "a", "a"), ("below", "a", "a", 1, 1),
+            ("greatest",),
+            ("greatest", "a", "a"), ("discriminant", "a"), ("discriminant", "a", -23, 1), ("kind", "a", 2),
+            ("kind", "a", 2, "none", 1),
+            ("Alike", "a", "a"), ("", "a"), (None, "a"), (b"greatest", "a"), (["greatest"], "a"),
+            (("greatest",), "a"), ("put", "a", CUBIC),
             ["greatest", "a"], "greatest a", {"greatest": "a"}, nested(8), ("a", "greatest"), (CUBIC, "a"), ({}, "a")]
         for value in NO_NAMES:
             wrong += [("alike", value, "a"), ("alike", "a", value), ("below", value, "a", 1), ("below", "a", value, 1),
@@ -316,7 +332,8 @@ class Sayings(Checked):
         wrong += [("below", "a", "a", value) for value in NO_INTEGERS + (0, 21, -1, LONGEST)]
         wrong += [("discriminant", "a", value) for value in NO_INTEGERS]
         wrong += [("kind", "a", value, "none") for value in NO_INTEGERS + (0, 1, 4, 91, 100, 101, -2, LONGEST)]
-        wrong += [("kind", "a", 2, value) for value in NO_INTEGERS + NO_TUPLES + ("None", "NONE", "no", "nones", ("none",), "", b"none")]
+        wrong += [("kind", "a", 2, value) for value in NO_INTEGERS + NO_TUPLES + ("None", "NONE", "no", "nones",
+            ("none",), "", b"none")]
         before = state(shelf)
         for value in wrong:
             self.refuses(InvalidOperation, {}, shelf.say, value)
@@ -354,7 +371,8 @@ class Sayings(Checked):
     def test_unsay(self):
         shelf = filled()
         shelf.say(("below", "a", "a", 1))
-        for value in (("greatest", "a"), ("below", "a", "a", True), ("below", "a", "a", 2), ["below", "a", "a", 1], "greatest", None):
+        for value in (("greatest", "a"), ("below", "a", "a", True), ("below", "a", "a", 2), ["below", "a", "a", 1],
+                      "greatest", None):
             self.refused(shelf, UnknownName, {"wanted": value}, shelf.unsay, value)
         self.assertIsNone(shelf.unsay(("below", "a", "a", 1)))
         self.assertEqual((shelf.sayings, shelf.past), ((), 3))
@@ -374,10 +392,12 @@ class Kept(Checked):
 
     def test_kept_by_deeds(self):
         shelf = self.said()
-        for deeds in ((("lead", "a", ((1, 1), (0, 1))),), (("least", "a"),), (("least", "d"), ("lead", "b", ((0, 1), (1, 0)))),
+        for deeds in ((("lead", "a", ((1, 1), (0, 1))),), (("least", "a"),),
+                      (("least", "d"), ("lead", "b", ((0, 1), (1, 0)))),
                       (("take", "abcdefgh"),), (("put", "a", CUBIC.led(((2, 1), (1, 1)))),),
                       (("put", "a", ROUND), ("put", "c", ROUND), ("put", "a", CUBIC), ("put", "c", CUBIC)),
-                      (("take", "a"), ("put", "a", -CUBIC)), (("down", "b", 3, (0, 1)), ("up", "b", 3, (1, 0)), ("least", "b")),
+                      (("take", "a"), ("put", "a", -CUBIC)),
+                      (("down", "b", 3, (0, 1)), ("up", "b", 3, (1, 0)), ("least", "b")),
                       (("put", "zz", PLAIN.times(4)),), (("put", "zz", NOTHING),)):
             self.assertIsNone(shelf.do(*deeds), deeds)
             self.assertTrue(all(shelf.is_true(saying) for saying in shelf.sayings))
@@ -387,7 +407,8 @@ class Kept(Checked):
         shelf = self.said()
         one, two, three, four, five = shelf.sayings
         for saying, deeds in (
-                (one, (("put", "a", ROUND),)), (one, (("put", "c", ROUND),)), (three, (("put", "a", ROOT), ("put", "c", ROOT))),
+                (one, (("put", "a", ROUND),)), (one, (("put", "c", ROUND),)),
+                (three, (("put", "a", ROOT), ("put", "c", ROOT))),
                 (two, (("put", "d", PLAIN),)), (two, (("down", "b", 2, (0, 1)),)), (two, (("down", "d", 2, (1, 0)),)),
                 (four, (("put", "b", PLAIN.times(2)), ("put", "d", below(PLAIN.times(2), 2, (0, 1))))),
                 (five, (("put", "zz", ROUND),)), (five, (("put", "zz", PLAIN.times(2)), ("put", "zz", PLAIN.times(3)))),
@@ -399,9 +420,11 @@ class Kept(Checked):
         one, two, three, four, five = shelf.sayings
         for saying, deeds in (
                 (one, (("take", "a"),)), (one, (("take", "c"),)), (two, (("take", "b"),)), (two, (("take", "d"),)),
-                (five, (("take", "zz"),)), (one, (("take", "zz"), ("take", "c"))), (two, (("take", "b"), ("take", "d"))),
+                (five, (("take", "zz"),)), (one, (("take", "zz"), ("take", "c"))),
+                (two, (("take", "b"), ("take", "d"))),
                 # What is taken is told ahead of what is broken.
-                (five, (("put", "a", ROUND), ("take", "zz"))), (two, (("put", "a", ROUND), ("take", "zz"), ("take", "b")))):
+                (five, (("put", "a", ROUND), ("take", "zz"))),
+                (two, (("put", "a", ROUND), ("take", "zz"), ("take", "b")))):
             self.refused(shelf, Refused, {"reason": ("taken", saying)}, shelf.do, *deeds)
         self.assertIsNone(shelf.do(("take", "a"), ("put", "a", CUBIC)))
         self.assertIsNone(shelf.do(("take", "a"), ("take", "c"), ("put", "c", CUBIC), ("put", "a", CUBIC)))
@@ -426,9 +449,11 @@ class Kept(Checked):
         for _ in range(600):
             name, other = source.choice(names), source.choice(names)
             deeds = [source.choice((
-                ("put", name, source.choice(FORMS)), ("take", name), ("lead", name, source.choice(some_changes(193, 9))),
+                ("put", name, source.choice(FORMS)), ("take", name),
+                ("lead", name, source.choice(some_changes(193, 9))),
                 ("least", name), ("up", name, 2, source.choice(((0, 1), (1, 0), (1, 1)))),
-                ("down", name, source.choice((2, 3)), source.choice(((0, 1), (1, 0), (1, 1)))))) for _ in range(source.randint(1, 3))]
+                ("down", name, source.choice((2, 3)),
+                source.choice(((0, 1), (1, 0), (1, 1)))))) for _ in range(source.randint(1, 3))]
             saying = source.choice((
                 ("alike", name, other), ("below", name, other, source.randint(1, 4)), ("greatest", name),
                 ("discriminant", name, source.choice((-23, 1, 49, 4))), ("kind", name, 2, source.choice(KINDS))))
@@ -461,7 +486,8 @@ class Steps(Checked):
     def test_one_and_several(self):
         shelf = Shelf()
         seen = [state(shelf)]
-        for call in (lambda: shelf.do(("put", "a", PLAIN)), lambda: shelf.say(("greatest", "a")), lambda: shelf.do(("put", "b", CUBIC)),
+        for call in (lambda: shelf.do(("put", "a", PLAIN)), lambda: shelf.say(("greatest", "a")),
+                     lambda: shelf.do(("put", "b", CUBIC)),
                      lambda: shelf.unsay(("greatest", "a")), lambda: shelf.do(("take", "a"), ("put", "c", ROOT)),
                      lambda: shelf.say(("alike", "b", "b"))):
             self.assertIsNone(call())
@@ -577,7 +603,8 @@ class Objects(Checked):
     def test_properties_and_methods(self):
         shelf = filled()
         self.keeps(shelf, ("forms", "sayings", "past"))
-        for name in ("do", "say", "unsay", "is_true", "undo", "twin", "__contains__", "__getitem__", "__len__", "__iter__", "__eq__",
+        for name in ("do", "say", "unsay", "is_true", "undo", "twin", "__contains__", "__getitem__", "__len__",
+                     "__iter__", "__eq__",
                      "__str__"):
             self.assertIn(name, vars(Shelf))
         parameter = inspect.signature(Shelf.undo).parameters["steps"]

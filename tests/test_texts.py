@@ -31,7 +31,8 @@ def values():
         for ideal, _ in primes_over(ring, 5):
             yield ideal
             yield ideal * ideal + whole(ring).stretched(ring.one().scaled(7, 4))
-    for ideal in ideals_of(Ring(PLAIN), 12) + (inverse_of(made_by(Ring(ROOT), (Ring(ROOT).w(),))), dual(whole(Ring(CUBIC)))):
+    for ideal in ideals_of(Ring(PLAIN), 12) + (inverse_of(made_by(Ring(ROOT), (Ring(ROOT).w(),))),
+                                               dual(whole(Ring(CUBIC)))):
         yield ideal
 
 
@@ -49,7 +50,8 @@ class Examples(unittest.TestCase):
     def test_texts_by_the_words(self):
         ring = Ring(ROOT)
         for value, text in (
-                (Form((0, -1, 0, 10)), "form 0 -1 0 10"), (Double((-1, 0, 7)), "double -1 0 7"), (ring, "ring 1 0 0 -2"),
+                (Form((0, -1, 0, 10)), "form 0 -1 0 10"), (Double((-1, 0, 7)), "double -1 0 7"),
+                (ring, "ring 1 0 0 -2"),
                 (ring.w(), "element 1 0 0 -2: 0 1 0"), (ring.element((0, 0, 0), 5), "element 1 0 0 -2: 0 0 0"),
                 (ring.element((2, 4, -6), -4), "element 1 0 0 -2: -1 -2 3/2"),
                 (Ideal(ring, ((2, 0, 0), (0, 2, 0), (0, 0, 1)), 2), "ideal 1 0 0 -2: 2 0 0, 0 2 0, 0 0 1/2"),
@@ -116,38 +118,54 @@ class Read(Refusals, unittest.TestCase):
     def test_first_parts(self):
         self.spot(
             0, "", " ", "form", "form ", "1 1 2 1", "form1 1 2 1", "Form 1 1 2 1", "forms 1 1 2 1", " form 1 1 2 1",
-            "form 1 1 2 1 ", "form  1 1 2 1", "form 1  1 2 1", "form 1 1 2", "form 1 1 2 1 0", "form 1 1 2 +1", "form 1 1 2 01",
-            "form 1 1 2 -0", "form 1 1 2 00", "form 1 1 2 --1", "form 1 1 2 -", "form 1 1 2 1.0", "form 1 1 2 1_0", "form 1 1 2 a",
-            "form 1,1,2,1", "form 1, 1, 2, 1", "form\t1 1 2 1", "form 1 1 2\t1", "form 1 1 2 1\n", "\nform 1 1 2 1", "form 1 1 2 1:",
-            "form 1 1 2 -01", "form (1, 1, 2, 1)", "form 1 1 2 1/2", f"form 1 1 2 {LONG}", f"form {-LONG} 1 2 1", "double 1 1",
-            "double 1 1 2 1", "double 1 1 06", "ring 1 1 2", "ring 1 1 2 1 1", "box 1 1 2 1", "shelf 1 1 2 1", "a" * 4000,
+            "form 1 1 2 1 ", "form  1 1 2 1", "form 1  1 2 1", "form 1 1 2", "form 1 1 2 1 0", "form 1 1 2 +1",
+            "form 1 1 2 01",
+            "form 1 1 2 -0", "form 1 1 2 00", "form 1 1 2 --1", "form 1 1 2 -", "form 1 1 2 1.0", "form 1 1 2 1_0",
+            "form 1 1 2 a",
+            "form 1,1,2,1", "form 1, 1, 2, 1", "form\t1 1 2 1", "form 1 1 2\t1", "form 1 1 2 1\n", "\nform 1 1 2 1",
+            "form 1 1 2 1:",
+            "form 1 1 2 -01", "form (1, 1, 2, 1)", "form 1 1 2 1/2", f"form 1 1 2 {LONG}", f"form {-LONG} 1 2 1",
+            "double 1 1",
+            "double 1 1 2 1", "double 1 1 06", "ring 1 1 2", "ring 1 1 2 1 1", "box 1 1 2 1", "shelf 1 1 2 1",
+            "a" * 4000,
             "9" * 4000, "form " + "1 " * 1990, "(1, 1, 2, 1)", "None", "element", "ideal", "form 1 1 2 \u0661")
 
     def test_second_parts_that_are_missing_or_too_many(self):
         self.spot(
             0, "form 1 1 2 1: ", "form 1 1 2 1: 1", "form 1 1 2 1: 1 2 3", "double 1 1 6: 1 2 3", "double 1 1 6: ",
-            "ring 1 1 2 1: ", "ring 1 1 2 1: 1 0 0, 0 1 0, 0 0 1", "element 1 1 2 1", "element 1 1 2 1:", "element 1 1 2 1 :1 2 3",
-            "element 1 1 2 1:1 2 3", "ideal 1 1 2 1", "ideal 1 1 2 1:", "element 1 1 2: 1 2 3", "element 1 1 2 1 : 1 2 3",
-            "element 1 1 2 01: 1 2 3", "ideal 1 1 2 1 1: 1 0 0, 0 1 0, 0 0 1", "element: 1 2 3", "element : 1 2 3", ": 1 2 3",
+            "ring 1 1 2 1: ", "ring 1 1 2 1: 1 0 0, 0 1 0, 0 0 1", "element 1 1 2 1", "element 1 1 2 1:",
+            "element 1 1 2 1 :1 2 3",
+            "element 1 1 2 1:1 2 3", "ideal 1 1 2 1", "ideal 1 1 2 1:", "element 1 1 2: 1 2 3",
+            "element 1 1 2 1 : 1 2 3",
+            "element 1 1 2 01: 1 2 3", "ideal 1 1 2 1 1: 1 0 0, 0 1 0, 0 0 1", "element: 1 2 3", "element : 1 2 3",
+            ": 1 2 3",
             ": ", "element 1: 1 2 1: 1 2 3", "form 1 1 2 1: : ", f"element {LONG} 1 2 1: 1 2 3", "element 1 1 2 01: a")
 
     def test_second_parts_of_elements(self):
         self.spot(
             1, *("element 1 1 2 1: " + part for part in (
-                "", " ", "1 2", "1 2 3 4", " 1 2 3", "1 2 3 ", "1  2 3", "1 2 3/", "1 2 3/1", "1 2 3/0", "1 2 3/-2", "1 2 3/02",
-                "1 2 3/2/3", "1 2 3 /2", "1 2 3/ 2", "1 2 3/2 ", "/2", "1 2 03", "1 2 -0", "+1 2 3", "1 2 3/+2", "1, 2, 3", "1 2 3, 4",
-                "1 2 3, 1 2 3, 1 2 3", "(1 2 3)/2", "1/2 2 3", "w", "1 2 3: 4", "1 2 3/2: ", "1 2 3\n", "1\t2 3", f"1 2 {LONG}",
+                "", " ", "1 2", "1 2 3 4", " 1 2 3", "1 2 3 ", "1  2 3", "1 2 3/", "1 2 3/1", "1 2 3/0", "1 2 3/-2",
+                "1 2 3/02",
+                "1 2 3/2/3", "1 2 3 /2", "1 2 3/ 2", "1 2 3/2 ", "/2", "1 2 03", "1 2 -0", "+1 2 3", "1 2 3/+2",
+                "1, 2, 3", "1 2 3, 4",
+                "1 2 3, 1 2 3, 1 2 3", "(1 2 3)/2", "1/2 2 3", "w", "1 2 3: 4", "1 2 3/2: ", "1 2 3\n", "1\t2 3",
+                f"1 2 {LONG}",
                 f"1 2 3/{LONG}", f"{-LONG} 2 3", "1 2 3//2", "a b c", "1 2 3/a", "a" * 3900)))
 
     def test_second_parts_of_ideals(self):
         self.spot(
             1, *("ideal 1 0 0 -2: " + part for part in (
-                "", "1 0 0", "1 0 0, 0 1 0", "1 0 0, 0 1 0, 0 0 1, 0 0 0", "1 0 0,0 1 0,0 0 1", "1 0 0, 0 1 0,  0 0 1", "1 0 0 0 1 0 0 0 1",
-                "1 0 0, 0 1 0, 0 0 1 ", "1 0 0, 0 1 0, 0 0 1,", "1 0 0, 0 1 0, 0 0 1, ", "1 0, 0 1 0, 0 0 1", "1 0 0 0, 0 1 0, 0 0 1",
-                "1 0 0, 0 1 0, 0 0 1/", "1 0 0, 0 1 0, 0 0 1/1", "1 0 0, 0 1 0, 0 0 1/0", "1 0 0, 0 1 0, 0 0 1/-2", "1 0 0, 0 1 0, 0 0 1/02",
-                "1 0 0/2, 0 1 0/2, 0 0 1/2", "1 0 0/2, 0 1 0, 0 0 1", "01 0 0, 0 1 0, 0 0 1", "1 0 0, 0 1 0, 0 -0 1", "1 0 0; 0 1 0; 0 0 1",
+                "", "1 0 0", "1 0 0, 0 1 0", "1 0 0, 0 1 0, 0 0 1, 0 0 0", "1 0 0,0 1 0,0 0 1",
+                "1 0 0, 0 1 0,  0 0 1", "1 0 0 0 1 0 0 0 1",
+                "1 0 0, 0 1 0, 0 0 1 ", "1 0 0, 0 1 0, 0 0 1,", "1 0 0, 0 1 0, 0 0 1, ", "1 0, 0 1 0, 0 0 1",
+                "1 0 0 0, 0 1 0, 0 0 1",
+                "1 0 0, 0 1 0, 0 0 1/", "1 0 0, 0 1 0, 0 0 1/1", "1 0 0, 0 1 0, 0 0 1/0", "1 0 0, 0 1 0, 0 0 1/-2",
+                "1 0 0, 0 1 0, 0 0 1/02",
+                "1 0 0/2, 0 1 0/2, 0 0 1/2", "1 0 0/2, 0 1 0, 0 0 1", "01 0 0, 0 1 0, 0 0 1", "1 0 0, 0 1 0, 0 -0 1",
+                "1 0 0; 0 1 0; 0 0 1",
                 "1 0 0, 0 1 0, 0 0 1: ", "1 0 0: 0 1 0: 0 0 1", "1 0 0, 0 1 0, 0 0 1/2 ", f"1 0 0, 0 1 0, 0 0 {LONG}",
-                f"1 0 0, 0 1 0, 0 0 1/{LONG}", "1 0 0\n, 0 1 0, 0 0 1", "((1, 0, 0), (0, 1, 0), (0, 0, 1))", " 1 0 0, 0 1 0, 0 0 1")))
+                f"1 0 0, 0 1 0, 0 0 1/{LONG}", "1 0 0\n, 0 1 0, 0 0 1", "((1, 0, 0), (0, 1, 0), (0, 0, 1))",
+                " 1 0 0, 0 1 0, 0 0 1")))
 
     def test_elements_with_another_text(self):
         self.spot(2, *("element 1 1 2 1: " + part for part in (
@@ -163,10 +181,13 @@ class Read(Refusals, unittest.TestCase):
 
     def test_ideals_with_another_text(self):
         self.spot(2, *("ideal 1 0 0 -2: " + part for part in (
-            "2 0 0, 0 2 0, 0 0 2/2", "2 0 0, 0 2 0, 0 0 2/4", "0 0 0, 0 0 0, 0 0 0", "1 0 0, 0 1 0, 0 1 0", "0 1 0, 1 0 0, 0 0 1",
-            "-1 0 0, 0 1 0, 0 0 1", "1 0 0, 0 1 0, 0 0 -1", "1 1 0, 0 1 0, 0 0 1", "2 0 3, 0 2 0, 0 0 2", "2 0 -1, 0 2 0, 0 0 2",
+            "2 0 0, 0 2 0, 0 0 2/2", "2 0 0, 0 2 0, 0 0 2/4", "0 0 0, 0 0 0, 0 0 0", "1 0 0, 0 1 0, 0 1 0",
+            "0 1 0, 1 0 0, 0 0 1",
+            "-1 0 0, 0 1 0, 0 0 1", "1 0 0, 0 1 0, 0 0 -1", "1 1 0, 0 1 0, 0 0 1", "2 0 3, 0 2 0, 0 0 2",
+            "2 0 -1, 0 2 0, 0 0 2",
             "1 0 0, 1 1 0, 0 0 1", "1 0 0, 0 1 0, 0 1 1", "1 0 0, 0 2 0, 0 0 1", "1 0 0, 0 1 0, 0 0 2",
-            f"{LONGEST} 0 0, 0 1 0, 0 0 1", f"{LONGEST} 0 0, 0 {LONGEST} 0, 0 0 {LONGEST}/{LONGEST}", "1 0 0, 0 1 0, 0 0 2/2")))
+            f"{LONGEST} 0 0, 0 1 0, 0 0 1", f"{LONGEST} 0 0, 0 {LONGEST} 0, 0 0 {LONGEST}/{LONGEST}",
+            "1 0 0, 0 1 0, 0 0 2/2")))
 
     def test_all_small_rows_of_ideals(self):
         ring = Ring(PLAIN)

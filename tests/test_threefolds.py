@@ -16,7 +16,8 @@ from tests.helper import (
     rows_of, some_changes)
 
 THIRD = Double((2, 1, 3))
-ROWS = [(0, 0, 0, 0), (1, 1, -1, -2), (0, 1, 1, 0), (1, 1, 0, -1), (LONGEST, -LONGEST, LONGEST, 1)] + rows_of(151, 60, 4, 30)
+ROWS = [(0, 0, 0, 0), (1, 1, -1, -2), (0, 1, 1, 0), (1, 1, 0, -1), (LONGEST, -LONGEST, LONGEST, 1)] + rows_of(151, 60,
+    4, 30)
 NUMBERS = [number for number in range(-240, 0) if number % 4 < 2] + [-972, -3299, -4027, -2700]
 CALLS = (threefolds_of, third_paper, lambda value: is_third_paper(value, None))
 
@@ -254,7 +255,8 @@ class Wrong(Refusals, unittest.TestCase):
                 self.refuses(InvalidDouble, {}, call, value)
 
     def test_doubles_that_are_not_positive_and_primitive(self):
-        for row in ((0, 0, 0), (0, 1, 0), (1, 2, 1), (1, 3, 1), (-1, 0, -1), (-2, 1, -3), (2, 0, 2), (2, 2, 2), (0, 0, 1),
+        for row in ((0, 0, 0), (0, 1, 0), (1, 2, 1), (1, 3, 1), (-1, 0, -1), (-2, 1, -3), (2, 0, 2), (2, 2, 2),
+                    (0, 0, 1),
                     (-1001, 1, -100), (2000, 2, 2000), (2, 0, 200000), (1, LONGEST, 1), (LONGEST, 0, LONGEST)):
             for call in CALLS:
                 self.refuses(InvalidOperation, {}, call, Double(row))

@@ -4,7 +4,8 @@ from math import isqrt
 
 from formrings.base.checks import check_between, is_between
 from formrings.base.integers import is_fundamental
-from formrings.double.reduced import all_leasts, first_of, least_with, power_of_class, product_of
+from formrings.double.reduced import (
+    all_leasts, all_with, first_of, low_with, order_of_class, power_of_class, product_of)
 from formrings.errors import InvalidDouble, InvalidNumber
 from formrings.form.doubles import Double, double_of
 
@@ -44,28 +45,33 @@ def check_classes(one, other):
         raise InvalidDouble("the doubles have two discriminants")
 
 
-def least_of_class(double):
-    """The coefficients of the least double of the class."""
+def low_of(double):
+    """The coefficients of some reduced double of the class."""
     first, middle, _ = double.coefficients
-    return least_with(double.discriminant, first, middle)
+    return low_with(double.discriminant, first, middle)
+
+
+def least_from(number, low):
+    """The least double of the class of a reduced one."""
+    return double_of(min(all_with(number, low)))
 
 
 def least_double(double):
     """The least double of the class."""
     check_class(double)
-    return double_of(least_of_class(double))
+    return least_from(double.discriminant, low_of(double))
 
 
 def are_in_one_class(one, other):
     """Whether the doubles are in one class."""
     check_classes(one, other)
-    return least_of_class(one) == least_of_class(other)
+    return low_of(other) in all_with(one.discriminant, low_of(one))
 
 
 def first_class(number):
     """The least double of the first class."""
     check_number(number)
-    return double_of(first_of(number))
+    return least_from(number, first_of(number))
 
 
 def classes_of(number):
@@ -77,19 +83,14 @@ def classes_of(number):
 def together(one, other):
     """The least double of the product of two classes."""
     check_classes(one, other)
-    return double_of(product_of(one.discriminant, least_of_class(one), least_of_class(other)))
+    number = one.discriminant
+    return least_from(number, product_of(number, low_of(one), low_of(other)))
 
 
 def order_of(double):
     """The order of the class."""
     check_class(double)
-    number = double.discriminant
-    first, least = first_of(number), least_of_class(double)
-    order, left = 1, least
-    while left != first:
-        left = product_of(number, left, least)
-        order += 1
-    return order
+    return order_of_class(double.discriminant, low_of(double))
 
 
 def power_of(double, many):
@@ -98,8 +99,14 @@ def power_of(double, many):
     check_between(many, -MOST_TIMES, MOST_TIMES)
     number = double.discriminant
     first, middle, _ = double.coefficients
-    least = least_with(number, first, middle if many >= 0 else -middle)
-    return double_of(power_of_class(number, least, abs(many)))
+    low = low_with(number, first, middle if many >= 0 else -middle)
+    return least_from(number, power_of_class(number, low, abs(many)))
+
+
+def is_third(number, low):
+    """Whether the third power of the class of a reduced double is the first class."""
+    # Then the square of the class is the class that undoes it.
+    return product_of(number, low, low) in all_with(number, low_with(number, low[0], -low[1]))
 
 
 def thirds(number):
@@ -109,8 +116,7 @@ def thirds(number):
     # The number of such classes is a power of 3 that divides the number of all.
     if len(found) % 3 != 0:
         return 1
-    # The square of such a class is the class that undoes it.
-    return len([one for one in found if product_of(number, one, one) == least_with(number, one[0], -one[1])])
+    return len([one for one in found if is_third(number, one)])
 
 
 def ring_count(number):

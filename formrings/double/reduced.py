@@ -47,12 +47,18 @@ def next_above(number, root, double):
     return end_of(number, last, middle_above(number, root, last, -middle))
 
 
-def cycle_of(number, first, middle):
-    """All reduced doubles of the class, for a discriminant above 0."""
+def low_above(number, first, middle):
+    """Some reduced double of the class, for a discriminant above 0."""
     root = isqrt(number)
-    start = end_of(number, first, middle)
-    while not is_reduced_above(root, start[0], start[1]):
-        start = next_above(number, root, start)
+    double = end_of(number, first, middle)
+    while not is_reduced_above(root, double[0], double[1]):
+        double = next_above(number, root, double)
+    return double
+
+
+def cycle_of(number, start):
+    """All reduced doubles of the class of a reduced one, for a discriminant above 0."""
+    root = isqrt(number)
     found = [start]
     double = next_above(number, root, start)
     while double != start:
@@ -61,16 +67,19 @@ def cycle_of(number, first, middle):
     return found
 
 
-def least_with(number, first, middle):
-    """The least double of the class, told by its discriminant and its first two coefficients."""
-    if number < 0:
-        return low_below(number, first, middle)
-    return min(cycle_of(number, first, middle))
+def low_with(number, first, middle):
+    """Some reduced double of the class, told by its discriminant and its first two coefficients."""
+    return low_below(number, first, middle) if number < 0 else low_above(number, first, middle)
+
+
+def all_with(number, low):
+    """All reduced doubles of the class of a reduced one."""
+    return [low] if number < 0 else cycle_of(number, low)
 
 
 def first_of(number):
-    """The least double of the first class."""
-    return least_with(number, 1, number % 2)
+    """Some reduced double of the first class."""
+    return low_with(number, 1, number % 2)
 
 
 def all_below(number):
@@ -106,7 +115,7 @@ def leasts_above(number):
         # The first one of each cycle in the ascending sequence is its least one.
         if (first, middle, last) not in seen:
             found.append((first, middle, last))
-            for double in cycle_of(number, first, middle):
+            for double in cycle_of(number, (first, middle, last)):
                 seen[double] = True
     return found
 
@@ -117,7 +126,7 @@ def all_leasts(number):
 
 
 def product_of(number, one, other):
-    """The least double of the product of two classes."""
+    """Some reduced double of the product of two classes."""
     first, middle, _ = one
     second, between, _ = other
     half = (middle + between) // 2
@@ -127,11 +136,11 @@ def product_of(number, one, other):
     whole = gcd(shared, half)
     k, m = cofactors(shared // whole, half // whole)
     top = k * (i * first * between + j * second * middle) + m * (middle * between + number) // 2
-    return least_with(number, first * second // (whole * whole), top // whole)
+    return low_with(number, first * second // (whole * whole), top // whole)
 
 
 def power_of_class(number, double, many):
-    """The least double of the class, taken so many times, at least 0."""
+    """Some reduced double of the class, taken so many times, at least 0."""
     result = first_of(number)
     square = double
     left = many
@@ -142,3 +151,13 @@ def power_of_class(number, double, many):
         if left > 0:
             square = product_of(number, square, square)
     return result
+
+
+def order_of_class(number, double):
+    """How often the class of a reduced double must be taken for the product to be the first class."""
+    first = {low: True for low in all_with(number, first_of(number))}
+    order, left = 1, double
+    while left not in first:
+        left = product_of(number, left, double)
+        order += 1
+    return order

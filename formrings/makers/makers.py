@@ -32,9 +32,9 @@ def row_makers(coefficients, most, y):
 
 
 def whole_zeros(first, middle, last):
-    """The integers x for which first x x + middle x + last is 0; not all three are 0."""
+    """The integers x for which first x x + middle x + last is 0; first and middle are not both 0."""
     if first == 0:
-        return [-last // middle] if middle != 0 and last % middle == 0 else []
+        return [-last // middle] if last % middle == 0 else []
     inner = middle * middle - 4 * first * last
     if inner < 0 or isqrt(inner) * isqrt(inner) != inner:
         return []

@@ -4,7 +4,7 @@ from math import isqrt
 
 from formrings.base.changes import check_change, taken_back
 from formrings.base.checks import are_any_integers, are_short_integers
-from formrings.double.reduced import least_with, power_of_class
+from formrings.double.reduced import low_below, power_of_class
 from formrings.errors import InvalidDouble, InvalidOperation, Refused, TooMany
 from formrings.form.doubles import Double, double_led, double_of
 from formrings.form.forms import check_form, form_led, form_of
@@ -92,7 +92,8 @@ def all_threefolds(double):
 def cube_of(double):
     """The coefficients of the least double of the class, taken three times."""
     first, middle, _ = double.coefficients
-    return power_of_class(double.discriminant, least_with(double.discriminant, first, middle), 3)
+    # The only reduced double of a class is its least one, as the discriminant is below 0.
+    return power_of_class(double.discriminant, low_below(double.discriminant, first, middle), 3)
 
 
 def small_hessian(threefold):

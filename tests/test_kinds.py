@@ -58,6 +58,41 @@ def kind_by_factors(factors):
         ((1, 3),): "thrice"}[tuple(pattern)]
 
 
+class GreatPrimes(unittest.TestCase):
+    """[9.1], [9.2], at primes at which not all residues are tried"""
+
+    def test_factors_and_kinds(self):
+        found = set()
+        for prime in (5, 7, 101, 997, 1009, 9973):
+            rows = rows_of(131, 14, 4, 10 ** 6)
+            for i, j, k in rows_of(132, 6, 3, prime):
+                for r, s, t in ((i, j, k), (i, i, k), (j, j, j)):
+                    row = (1, -(r + s + t), r * s + r * t + s * t, -r * s * t)
+                    rows += [row, row[::-1], tuple(3 * number % prime for number in row)]
+                rows += [(0, 0, 1, k), (0, 1, i, j), (prime, 0, 0, 7), (0, 0, prime, k), (prime * i, prime, 0, 2 * prime)]
+            for row in rows:
+                form = Form(row)
+                found.add(kind_at(form, prime))
+                if kind_at(form, prime) == "all":
+                    self.assertEqual([number % prime for number in row], [0] * 4)
+                    continue
+                unit, factors = factors_at(form, prime)
+                self.assertEqual(kind_at(form, prime), kind_by_factors(factors))
+                rows_told = [factor for factor, times in factors for _ in range(times)]
+                self.assertEqual([unit * number % prime for number in multiplied(rows_told, prime)],
+                                 [number % prime for number in row])
+                for factor, _ in factors:
+                    if len(factor) > 2:
+                        self.assertFalse(any(self.value(factor, x) % prime == 0 for x in range(prime)))
+        self.assertEqual(found, set(WORDS))
+
+    def value(self, factor, x):
+        result = 0
+        for number in factor:
+            result = result * x + number
+        return result
+
+
 class Examples(unittest.TestCase):
     def test_constants(self):
         self.assertEqual((kinds.MAX_PRIME, kinds.MAX_KINDS), (10000, 1000))

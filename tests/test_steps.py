@@ -9,7 +9,7 @@ from formrings.form.forms import Form
 from formrings.led.least import is_least, least_form
 from formrings.ring.rings import Ring, ring_by_table
 from tests.helper import (
-    CUBIC, LONG, LONGEST, NO_PRIMES, NO_TUPLES, NOTHING, OBJECTS, PLAIN, ROOT, ROUND, Refusals, nested,
+    CUBIC, IDLE, LONG, LONGEST, NO_PRIMES, NO_TUPLES, NOTHING, OBJECTS, PLAIN, ROOT, ROUND, Refusals, nested,
     no_objects, numbers, rows_of, some_changes)
 
 MOST = 10 ** 8
@@ -128,6 +128,58 @@ class Places(unittest.TestCase):
                              tuple(place for place in places(prime) if form(*place) % prime == 0))
             self.assertEqual(heavy_places(form, prime),
                              tuple(place for place in places(prime) if heavy_by_words(form, prime, place)))
+
+
+class GreatPrimes(unittest.TestCase):
+    """[7.1], at primes at which not all residues are tried"""
+
+    def forms(self, prime):
+        """Forms with each number of roots, also taken twice and three times, and with the end among them."""
+        source = numbers(214)
+        for _ in range(12):
+            yield Form(tuple(source.randrange(-prime, prime) for _ in range(4)))
+        for _ in range(8):
+            i, j, k = [source.randrange(prime) for _ in range(3)]
+            for r, s, t in ((i, j, k), (i, i, k), (i, i, i), (0, i, j), (0, 0, 0)):
+                unit = source.randrange(1, prime)
+                row = (1, -(r + s + t), r * s + r * t + s * t, -r * s * t)
+                yield Form(tuple(unit * number for number in row))
+                yield Form(tuple(unit * number % prime for number in row)[::-1])
+            yield Form((prime * i, 1, -(i + j), i * j))
+            yield Form((prime, prime, 1, -k))
+        yield Form((0, 0, 0, 1))
+        yield Form((prime, 0, -prime, 5))
+        yield Form((2 * prime, 0, 3 * prime, prime))
+
+    def test_against_all_residues(self):
+        for prime in (997, 1009, 1013, 2003, 9973):
+            many = set()
+            for form in self.forms(prime):
+                a, b, c, d = form.coefficients
+                found = [(x, 1) for x in range(prime) if (((a * x + b) * x + c) * x + d) % prime == 0]
+                if a % prime == 0:
+                    found = sorted(found + [(1, 0)])
+                self.assertEqual(roots_at(form, prime), tuple(found))
+                many.add(len(found))
+                heavy = [(x, y) for x, y in found if self.is_heavy(form, prime, x, y)]
+                self.assertEqual(heavy_places(form, prime), tuple(heavy))
+            self.assertEqual(many, {0, 1, 2, 3, prime + 1})
+
+    def is_heavy(self, form, prime, x, y):
+        a, b, _, _ = form.led(((x, y), (-1, 0)) if y == 1 else ((1, 0), (0, 1))).coefficients
+        return a % (prime * prime) == 0 and b % prime == 0
+
+    def test_heavy_places_at_small_primes(self):
+        many = 0
+        for prime in (2, 3, 5, 7, 11, 13):
+            for row in rows_of(215 + prime, 60, 4, 30):
+                for rows in ((1, 1, 1, 1), (prime * prime, prime, 1, 1), (1, 1, prime, prime * prime), (prime,) * 4):
+                    for change in (IDLE, ((1, 1), (0, 1)), ((1, 0), (2, 1)), ((3, 1), (2, 1))):
+                        form = Form(tuple(one * two for one, two in zip(row, rows))).led(change)
+                        heavy = [(x, y) for x, y in roots_at(form, prime) if self.is_heavy(form, prime, x, y)]
+                        many += len(heavy) > 0
+                        self.assertEqual(heavy_places(form, prime), tuple(heavy))
+        self.assertGreater(many, 2000)
 
 
 class Within(unittest.TestCase):

@@ -1,6 +1,8 @@
 """Reckoning modulo primes: factors of forms, and kinds."""
 
-from formrings.above.places import END, is_full, places_of_roots
+from formrings.above.places import END, places_of_roots
+from formrings.base.polynomials import power_at
+from formrings.form.forms import form_discriminant, form_hessian
 
 
 def value_at(row, x, prime):
@@ -53,11 +55,26 @@ def root_times(coefficients, prime):
     return found, row
 
 
-def kind_of(coefficients, prime):
-    """The word for the kind of the form at the prime."""
-    if is_full(coefficients, prime):
-        return "all"
+def kind_by_roots(coefficients, prime):
+    """The word for the kind of a form whose content the prime does not divide, by its factors."""
     roots, rest = root_times(coefficients, prime)
     if len(rest) > 1:
         return "none" if len(roots) == 0 else "pair"
     return ("thrice", "twice", "three")[len(roots) - 1]
+
+
+def kind_of(coefficients, prime):
+    """The word for the kind of the form at the prime."""
+    short = tuple([number % prime for number in coefficients])
+    if not any(short):
+        return "all"
+    if prime < 5:
+        return kind_by_roots(short, prime)
+    number = form_discriminant(short) % prime
+    if number == 0:
+        # Modulo such a prime just the third powers have the Hessian 0.
+        return "twice" if any([entry % prime != 0 for entry in form_hessian(short)]) else "thrice"
+    # The discriminant is a square modulo the prime exactly if the number of factors is odd.
+    if power_at(number, (prime - 1) // 2, prime) != 1:
+        return "pair"
+    return "three" if len(places_of_roots(short, prime)) > 0 else "none"

@@ -88,8 +88,8 @@ def read(text):
     if not isinstance(text, str):
         raise ParseError(None)
     front, cut, behind = text.partition(CUT)
-    word, blank, numbers = front.partition(" ")
-    if word not in WORDS or blank == "":
+    word, _, numbers = front.partition(" ")
+    if word not in WORDS:
         raise ParseError(0)
     many, lines = WORDS[word]
     row = row_of(numbers, many)

@@ -113,6 +113,21 @@ class Lists(unittest.TestCase):
                          (0, 15, 9, -6), (2, 7, -17, -10), (3, 9, -12, -11)])):
             self.assertEqual([form.coefficients for form in rings_of(number)], rows)
 
+    def test_forms_with_great_coefficients(self):
+        # With the least sizes of the discriminant for their first coefficients, with the greatest second coefficients,
+        # and with the greatest first coefficients of the Hessian.
+        for row in ((1, 1, 2, 1), (2, 2, 3, 1), (3, 3, 4, 1), (4, 4, 5, 1), (5, 5, 6, 1), (6, 7, 8, 2), (7, 8, 9, 2),
+                    (8, 10, 11, 3), (9, 11, 12, 3), (10, 13, 14, 4), (11, 15, 16, 5), (12, 16, 17, 5), (13, 18, 19, 6),
+                    (14, 19, 20, 6), (1, 14, 14, 14), (2, 16, 16, 15), (3, 17, 17, 15), (4, 18, 18, 16), (5, 19, 19, 15),
+                    (6, 20, 20, 15), (7, 21, 21, 15), (8, 22, 22, 15), (9, 23, 23, 15), (10, 23, 23, 14), (11, 24, 24, 14),
+                    (12, 24, 24, 13), (13, 25, 26, 13), (14, 23, 24, 10), (1, 5, -4, 6), (2, 6, -5, 8), (3, 6, -5, 9),
+                    (4, 7, -6, 11), (5, 5, -4, 10), (6, 3, -2, 9), (7, 14, 14, 8), (8, 16, 16, 9), (9, 18, 18, 10),
+                    (10, 20, 20, 11), (11, 22, 22, 12), (13, 13, 14, 1), (14, 15, 16, 2), (1, 2, -1, -1), (2, 3, -3, -2),
+                    (3, 5, -4, -3), (4, 6, -6, -4), (5, 8, -7, -5), (6, 9, -9, -6)):
+            form = Form(row)
+            self.assertEqual((is_least(form), abs(form.discriminant) <= MOST), (True, True))
+            self.assertIn(form, rings_of(form.discriminant))
+
     def test_how_many_rings(self):
         # Counted once by another search, by all first three coefficients, and by all reduced Hessians.
         self.assertEqual(sum(len(rings_of(number)) for number in range(-3000, 0)), 2659)

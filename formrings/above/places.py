@@ -51,7 +51,7 @@ def multiple_place(coefficients, prime):
     first, middle, _ = [number % prime for number in form_hessian(coefficients)]
     a, b, _, _ = [number % prime for number in coefficients]
     # Twice, it is the only root of the Hessian; three times, the Hessian is 0, and the form a third power.
-    top, bottom = (middle, 2 * first) if middle != 0 or first != 0 else (b, 3 * a)
+    top, bottom = (middle, 2 * first) if first != 0 else (b, 3 * a)
     return END if bottom % prime == 0 else (-top * inverse_at(bottom, prime) % prime, 1)
 
 
